@@ -10,6 +10,7 @@ import (
 
 	"reedbed/api"
 	"reedbed/code"
+	"reedbed/sample"
 )
 
 // edge is a code point at an edge, with its octets and units.
@@ -39,15 +40,6 @@ func edges() []edge {
 	}
 }
 
-// strays are numbers that are no code points.
-func strays() []int {
-	return []int{
-		math.MinInt, math.MinInt32, -0x10000, -65, -1,
-		0xd800, 0xdbff, 0xdc00, 0xdfff,
-		0x110000, 0x200041, math.MaxInt32, 1<<32 + 65, math.MaxInt,
-	}
-}
-
 // octets are those at which the answers turn, first ones and others.
 func octets() []byte {
 	return []byte{
@@ -55,24 +47,6 @@ func octets() []byte {
 		0xc0, 0xc1, 0xc2, 0xdf, 0xe0, 0xe1, 0xec, 0xed, 0xee, 0xef,
 		0xf0, 0xf1, 0xf3, 0xf4, 0xf5, 0xf7, 0xf8, 0xfb, 0xfc, 0xfe, 0xff,
 	}
-}
-
-// each hands over all texts of those octets, up to a length.
-func each(of []byte, most int, do func(b []byte)) {
-	b := make([]byte, 0, most)
-	var grow func()
-	grow = func() {
-		do(b)
-		if len(b) == most {
-			return
-		}
-		for _, c := range of {
-			b = append(b, c)
-			grow()
-			b = b[:len(b)-1]
-		}
-	}
-	grow()
 }
 
 // P1.1
@@ -92,7 +66,7 @@ func TestPutAtEdges(t *testing.T) {
 }
 
 func TestPutOfWhatIsNoCodePoint(t *testing.T) {
-	for _, r := range strays() {
+	for _, r := range sample.Strays() {
 		if code.Is(r) {
 			t.Errorf("Is(%x) is true", r)
 		}
@@ -154,7 +128,7 @@ func TestGetOfWhatIsNone(t *testing.T) {
 }
 
 func TestGetOfMany(t *testing.T) {
-	each(octets(), 4, func(b []byte) {
+	sample.Each(octets(), 4, func(b []byte) {
 		want, size := utf8.DecodeRune(b)
 		if r, n := code.Get(b); r != int(want) || n != size {
 			t.Fatalf("Get(% x) is %x, %d", b, r, n)
@@ -217,12 +191,12 @@ func TestOpenOfMany(t *testing.T) {
 			t.Fatalf("Open(% x) is %v", b, code.Open(b))
 		}
 	}
-	each(octets(), 4, see)
+	sample.Each(octets(), 4, see)
 	var all []byte
 	for c := range 256 {
 		all = append(all, byte(c))
 	}
-	each(all, 2, see)
+	sample.Each(all, 2, see)
 }
 
 // P1.3
@@ -241,7 +215,7 @@ func TestUnitsAtEdges(t *testing.T) {
 }
 
 func TestUnitsOfWhatIsNoCodePoint(t *testing.T) {
-	for _, r := range strays() {
+	for _, r := range sample.Strays() {
 		if us := code.Units(r); !slices.Equal(us, []int{0xfffd}) {
 			t.Errorf("Units(%x) is %x", r, us)
 		}

@@ -12,6 +12,7 @@ import (
 	"reedbed/api"
 	"reedbed/code"
 	"reedbed/order"
+	"reedbed/sample"
 )
 
 // strayKinds are no encodings at all.
@@ -24,36 +25,9 @@ func unitless() []int {
 	return append(strayKinds(), api.Auto, api.Eight)
 }
 
-// strays are numbers that are no code points.
-func strays() []int {
-	return []int{
-		math.MinInt, math.MinInt32, -0x10000, -65, -1,
-		0xd800, 0xdbff, 0xdc00, 0xdfff,
-		0x110000, 0x200041, math.MaxInt32, 1<<32 + 65, math.MaxInt,
-	}
-}
-
 // turning are the octets of the marks, and some beside them.
 func turning() []byte {
 	return []byte{0x00, 0x41, 0xba, 0xbb, 0xbc, 0xbe, 0xbf, 0xee, 0xef, 0xf0, 0xfd, 0xfe, 0xff}
-}
-
-// each hands over all lists of those octets, up to a length.
-func each(of []byte, most int, do func(b []byte)) {
-	b := make([]byte, 0, most)
-	var grow func()
-	grow = func() {
-		do(b)
-		if len(b) == most {
-			return
-		}
-		for _, c := range of {
-			b = append(b, c)
-			grow()
-			b = b[:len(b)-1]
-		}
-	}
-	grow()
 }
 
 // plain is Mark, told by the document's words alone.
@@ -124,7 +98,7 @@ func TestNil(t *testing.T) {
 }
 
 func TestMarkOfAll(t *testing.T) {
-	each(turning(), 4, func(b []byte) {
+	sample.Each(turning(), 4, func(b []byte) {
 		kind, n := order.Mark(b)
 		if k, m := plain(b); kind != k || n != m {
 			t.Fatalf("Mark(%x) = %d, %d; want %d, %d", b, kind, n, k, m)
@@ -150,7 +124,7 @@ func TestMarkOfThreeOctets(t *testing.T) {
 func staysMarked(b []byte) bool {
 	kind, n := plain(b)
 	same := true
-	each(turning(), 3, func(behind []byte) {
+	sample.Each(turning(), 3, func(behind []byte) {
 		k, m := plain(slices.Concat(b, behind))
 		same = same && k == kind && m == n
 	})
@@ -158,7 +132,7 @@ func staysMarked(b []byte) bool {
 }
 
 func TestSureOfAll(t *testing.T) {
-	each(turning(), 3, func(b []byte) {
+	sample.Each(turning(), 3, func(b []byte) {
 		if want := staysMarked(b); order.Sure(b) != want {
 			t.Fatalf("Sure(%x) = %t", b, !want)
 		}
@@ -333,7 +307,7 @@ func TestEncodeAtEdges(t *testing.T) {
 
 func TestEncodeOfStrays(t *testing.T) {
 	wrong := []string{"\xef\xbf\xbd", "\xef\xbf\xbd", "\xfd\xff", "\xff\xfd"}
-	for _, r := range strays() {
+	for _, r := range sample.Strays() {
 		for kind, want := range wrong {
 			if b := order.Encode(kind, r); string(b) != want {
 				t.Errorf("Encode(%d, %x) = %x; want %x", kind, r, b, want)
