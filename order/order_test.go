@@ -15,14 +15,9 @@ import (
 	"reedbed/sample"
 )
 
-// strayKinds are no encodings at all.
-func strayKinds() []int {
-	return []int{math.MinInt, -3, -2, -1, 4, 5, 6, 7, 258, 259, 1<<32 + 2, 1<<32 + 3, math.MaxInt}
-}
-
 // unitless are the kinds that have no units of 16 bits.
 func unitless() []int {
-	return append(strayKinds(), api.Auto, api.Eight)
+	return append(sample.StrayKinds(), api.Auto, api.Eight)
 }
 
 // turning are the octets of the marks, and some beside them.
@@ -339,7 +334,7 @@ func TestEncodeOfNone(t *testing.T) {
 }
 
 func TestEncodeOfStrayKinds(t *testing.T) {
-	for _, kind := range strayKinds() {
+	for _, kind := range sample.StrayKinds() {
 		if b := order.Encode(kind, 0x41, 0x1f600, -1); len(b) != 0 {
 			t.Errorf("Encode(%d, ..) = %x", kind, b)
 		}
@@ -430,15 +425,9 @@ func TestMarkIsFirstCodePoint(t *testing.T) {
 	}
 }
 
-// withRoom is a copy of s within a longer list: what lies behind it is 0x55.
-func withRoom[E byte | int](s []E) (whole, part []E) {
-	whole = slices.Concat(s, []E{0x55, 0x55, 0x55, 0x55})
-	return whole, whole[:len(s)]
-}
-
 func TestOctetsHandedInStay(t *testing.T) {
 	for _, s := range []string{"", "\xef", "\xef\xbb", "\xef\xbb\xbf", "\xff\xfeA\x00", "\xfe\xff\x00A", "abc"} {
-		whole, b := withRoom([]byte(s))
+		whole, b := sample.WithRoom([]byte(s))
 		order.Mark(b)
 		order.Sure(b)
 		for kind := range 5 {
@@ -452,7 +441,7 @@ func TestOctetsHandedInStay(t *testing.T) {
 
 func TestNumbersHandedInStay(t *testing.T) {
 	us := []int{0x41, -1, 0x1f600, 0xd83d, 0x12345678}
-	whole, part := withRoom(us)
+	whole, part := sample.WithRoom(us)
 	for kind := range 5 {
 		order.Octets(kind, part...)
 		order.Encode(kind, part...)
@@ -478,14 +467,6 @@ func TestSpareRoomIsNotLooked(t *testing.T) {
 	}
 }
 
-// spoil overwrites a list with its spare room.
-func spoil[E byte | int](s []E) {
-	s = s[:cap(s)]
-	for i := range s {
-		s[i] = 0x77
-	}
-}
-
 func TestAnswersAreNewMemory(t *testing.T) {
 	b := []byte{0x12, 0x34, 0x56, 0x78}
 	rs := []int{0x41, 0x20ac, 0x1f600}
@@ -493,16 +474,16 @@ func TestAnswersAreNewMemory(t *testing.T) {
 		us, octets, text := order.Units(kind, b), order.Octets(kind, rs...), order.Encode(kind, rs...)
 		wantUnits, wantOctets, wantText := slices.Clone(us), slices.Clone(octets), slices.Clone(text)
 		for range 2 {
-			spoil(order.Units(kind, b))
-			spoil(order.Octets(kind, rs...))
-			spoil(order.Encode(kind, rs...))
+			sample.Spoil(order.Units(kind, b))
+			sample.Spoil(order.Octets(kind, rs...))
+			sample.Spoil(order.Encode(kind, rs...))
 		}
 		if !slices.Equal(us, wantUnits) || !bytes.Equal(octets, wantOctets) || !bytes.Equal(text, wantText) {
 			t.Errorf("kind %d: a later answer shares memory with an earlier one", kind)
 		}
-		spoil(us)
-		spoil(octets)
-		spoil(text)
+		sample.Spoil(us)
+		sample.Spoil(octets)
+		sample.Spoil(text)
 		if !slices.Equal(order.Units(kind, b), wantUnits) || !bytes.Equal(order.Octets(kind, rs...), wantOctets) || !bytes.Equal(order.Encode(kind, rs...), wantText) {
 			t.Errorf("kind %d: an answer that was changed changes later ones", kind)
 		}
@@ -516,8 +497,8 @@ func TestWhatIsHandedInIsNotKept(t *testing.T) {
 	b := []byte{0x12, 0x34}
 	rs := []int{0x41, 0x1f600}
 	us, octets, text := order.Units(api.Low, b), order.Octets(api.Low, rs...), order.Encode(api.Low, rs...)
-	spoil(b)
-	spoil(rs)
+	sample.Spoil(b)
+	sample.Spoil(rs)
 	if !slices.Equal(us, []int{0x3412}) || string(octets) != "A\x00\x00\xf6" || string(text) != "A\x00\x3d\xd8\x00\xde" {
 		t.Errorf("what was handed in is kept: %x, %x, %x", us, octets, text)
 	}
@@ -528,7 +509,7 @@ func TestMarksStay(t *testing.T) {
 	whole := []byte("\xef\xbb\xbf")
 	order.Mark(whole)
 	order.Sure(whole)
-	spoil(whole)
+	sample.Spoil(whole)
 	if kind, n := order.Mark([]byte("\xef\xbb\xbf")); kind != api.Eight || n != 3 {
 		t.Errorf("Mark = %d, %d", kind, n)
 	}

@@ -2,7 +2,10 @@
 // layer calls it.
 package sample
 
-import "math"
+import (
+	"math"
+	"slices"
+)
 
 // Strays are numbers that are no code points.
 func Strays() []int {
@@ -11,6 +14,11 @@ func Strays() []int {
 		0xd800, 0xdbff, 0xdc00, 0xdfff,
 		0x110000, 0x200041, math.MaxInt32, 1<<32 + 65, math.MaxInt,
 	}
+}
+
+// StrayKinds are numbers that are no encodings.
+func StrayKinds() []int {
+	return []int{math.MinInt, -3, -2, -1, 4, 5, 6, 7, 258, 259, 1<<32 + 2, 1<<32 + 3, math.MaxInt}
 }
 
 // Each hands over all lists of those octets, up to a length. The list is
@@ -30,4 +38,18 @@ func Each(of []byte, most int, do func(b []byte)) {
 		}
 	}
 	grow()
+}
+
+// WithRoom is a copy of s within a longer list: what lies behind it is 0x55.
+func WithRoom[E byte | int](s []E) (whole, part []E) {
+	whole = slices.Concat(s, []E{0x55, 0x55, 0x55, 0x55})
+	return whole, whole[:len(s)]
+}
+
+// Spoil overwrites a list with its spare room.
+func Spoil[E byte | int](s []E) {
+	s = s[:cap(s)]
+	for i := range s {
+		s[i] = 0x77
+	}
 }
