@@ -21,20 +21,20 @@ func StrayKinds() []int {
 	return []int{math.MinInt, -3, -2, -1, 4, 5, 6, 7, 258, 259, 1<<32 + 2, 1<<32 + 3, math.MaxInt}
 }
 
-// Each hands over all lists of those octets, up to a length. The list is
+// Each hands over all lists of those elements, up to a length. The list is
 // lent: it changes behind each call.
-func Each(of []byte, most int, do func(b []byte)) {
-	var b []byte
+func Each[E byte | int](of []E, most int, do func(list []E)) {
+	var list []E
 	var grow func()
 	grow = func() {
-		do(b)
-		if len(b) >= most {
+		do(list)
+		if len(list) >= most {
 			return
 		}
-		for _, c := range of {
-			b = append(b, c)
+		for _, e := range of {
+			list = append(list, e)
 			grow()
-			b = b[:len(b)-1]
+			list = list[:len(list)-1]
 		}
 	}
 	grow()
