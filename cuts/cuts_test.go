@@ -12,15 +12,6 @@ import (
 	"reedbed/sample"
 )
 
-// text is n octets, those beside each other unlike.
-func text(n int) []byte {
-	b := make([]byte, n)
-	for i := range b {
-		b[i] = byte(i % 251)
-	}
-	return b
-}
-
 // lengths of pieces.
 func lengths(pieces [][]byte) []int {
 	var ns []int
@@ -58,14 +49,6 @@ func allowed(piece, n int, sizes []int) int {
 		return 4096
 	}
 	return s
-}
-
-// turning are sizes about the ends of what a size may be.
-func turning() []int {
-	return []int{
-		math.MinInt, math.MinInt32, -4096, -1, 0, 1, 2, 3, 7, 4095, 4096, 4097, 8192,
-		1<<32 + 2, 1 << 40, math.MaxInt32, math.MaxInt,
-	}
 }
 
 // sameCut holds Cut against the plain reading, and joins what it cut.
@@ -128,7 +111,7 @@ func TestCutOfNoOctets(t *testing.T) {
 
 func TestCutWithoutSizes(t *testing.T) {
 	for _, n := range []int{1, 2, 4095, 4096, 4097, 65536, 1 << 20} {
-		b := text(n)
+		b := sample.Octets(n)
 		pieces := cuts.Cut(b)
 		if len(pieces) != 1 || !bytes.Equal(pieces[0], b) {
 			t.Errorf("Cut of %d octets without sizes has lengths %d; want one piece of all", n, lengths(pieces))
@@ -138,15 +121,15 @@ func TestCutWithoutSizes(t *testing.T) {
 
 func TestCutAtTheEndsOfSizes(t *testing.T) {
 	lists := [][]int{nil}
-	for _, s := range turning() {
+	for _, s := range sample.Sizes() {
 		lists = append(lists, []int{s})
-		for _, r := range turning() {
+		for _, r := range sample.Sizes() {
 			lists = append(lists, []int{s, r})
 		}
 	}
 	lists = append(lists, []int{4096, 1, 4097, 0, 4095}, []int{1, 2, 3, 4, 5, 6, 7, 8, 9})
 	for _, n := range []int{0, 1, 2, 3, 8, 9, 10, 4095, 4096, 4097, 8191, 8192, 8193, 10000} {
-		b := text(n)
+		b := sample.Octets(n)
 		for _, sizes := range lists {
 			sameCut(t, b, sizes)
 		}
@@ -154,7 +137,7 @@ func TestCutAtTheEndsOfSizes(t *testing.T) {
 }
 
 func TestCutOfAllSmallSizes(t *testing.T) {
-	whole := text(14)
+	whole := sample.Octets(14)
 	for n := range len(whole) + 1 {
 		sample.Each([]int{-1, 0, 1, 2, 3, 5}, 4, func(sizes []int) {
 			sameCut(t, whole[:n], sizes)
@@ -182,7 +165,7 @@ type parts struct {
 // joints are such ones, pieces of no octets among them.
 func joints() []parts {
 	ab, c, none := []byte("ab"), []byte{0xff}, []byte{}
-	long := text(5000)
+	long := sample.Octets(5000)
 	return []parts{
 		{nil, "", nil},
 		{[][]byte{}, "", nil},
@@ -217,7 +200,7 @@ func TestEnds(t *testing.T) {
 }
 
 func TestJoinAndEndsOfAllSmallLengths(t *testing.T) {
-	b := text(16)
+	b := sample.Octets(16)
 	sample.Each([]int{0, 1, 2, 3}, 5, func(ns []int) {
 		var pieces [][]byte
 		var want []int
@@ -248,7 +231,7 @@ func TestEndsOfWhatIsCut(t *testing.T) {
 		{6, []int{1, 2}, []int{1, 3, 4, 6}},
 		{10000, []int{math.MaxInt}, []int{4096, 8192, 10000}},
 	} {
-		if ends := cuts.Ends(cuts.Cut(text(c.n), c.sizes...)...); !slices.Equal(ends, c.want) {
+		if ends := cuts.Ends(cuts.Cut(sample.Octets(c.n), c.sizes...)...); !slices.Equal(ends, c.want) {
 			t.Errorf("Ends of %d octets cut by %d = %d; want %d", c.n, c.sizes, ends, c.want)
 		}
 	}
@@ -467,7 +450,7 @@ func TestCutBySpread(t *testing.T) {
 	for n := 1; n <= 60; n++ {
 		for most := 1; most <= 20; most++ {
 			sizes := cuts.Spread(n, most)
-			pieces := cuts.Cut(text(n), sizes...)
+			pieces := cuts.Cut(sample.Octets(n), sizes...)
 			if !slices.Equal(lengths(pieces), sizes) {
 				t.Fatalf("%d octets cut by %d have lengths %d", n, sizes, lengths(pieces))
 			}

@@ -21,6 +21,23 @@ func StrayKinds() []int {
 	return []int{math.MinInt, -3, -2, -1, 4, 5, 6, 7, 258, 259, 1<<32 + 2, 1<<32 + 3, math.MaxInt}
 }
 
+// Octets are n octets, those beside each other unlike.
+func Octets(n int) []byte {
+	b := make([]byte, n)
+	for i := range b {
+		b[i] = byte(i % 251)
+	}
+	return b
+}
+
+// Sizes are numbers about the ends of what a size of pieces may be.
+func Sizes() []int {
+	return []int{
+		math.MinInt, math.MinInt32, -4096, -1, 0, 1, 2, 3, 7, 4095, 4096, 4097, 8192,
+		1<<32 + 2, 1 << 40, math.MaxInt32, math.MaxInt,
+	}
+}
+
 // Each hands over all lists of those elements, up to a length. The list is
 // lent: it changes behind each call.
 func Each[E byte | int](of []E, most int, do func(list []E)) {
