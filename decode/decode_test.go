@@ -531,26 +531,14 @@ func TestTextOfAll(t *testing.T) {
 
 // P3.3
 
-// cut is b in pieces, cut behind each octet whose bit is set.
-func cut(b []byte, bits int) [][]byte {
-	var pieces [][]byte
-	from := 0
-	for n := 1; n < len(b); n++ {
-		if bits>>(n-1)&1 != 0 {
-			pieces, from = append(pieces, b[from:n]), n
-		}
-	}
-	return append(pieces, b[from:])
-}
-
 func TestEveryCut(t *testing.T) {
 	for _, s := range streams() {
 		b := []byte(s)
 		for kind := range 4 {
 			want := decode.Text(kind, b)
 			for bits := range 1 << max(len(b)-1, 0) {
-				if got := apart(t, kind, cut(b, bits)...); got != want {
-					t.Fatalf("New(%d), %x: %q; want %q", kind, cut(b, bits), got, want)
+				if got := apart(t, kind, sample.Pieces(b, bits)...); got != want {
+					t.Fatalf("New(%d), %x: %q; want %q", kind, sample.Pieces(b, bits), got, want)
 				}
 			}
 		}

@@ -57,6 +57,18 @@ func Each[E byte | int](of []E, most int, do func(list []E)) {
 	grow()
 }
 
+// Pieces is a text cut behind each octet whose bit is set.
+func Pieces[S string | []byte](text S, bits int) []S {
+	var pieces []S
+	from := 0
+	for n := 1; n < len(text); n++ {
+		if bits>>(n-1)&1 != 0 {
+			pieces, from = append(pieces, text[from:n]), n
+		}
+	}
+	return append(pieces, text[from:])
+}
+
 // WithRoom is a copy of s within a longer list: what lies behind it is 0x55.
 func WithRoom[E byte | int](s []E) (whole, part []E) {
 	whole = slices.Concat(s, []E{0x55, 0x55, 0x55, 0x55})
