@@ -40,7 +40,7 @@ func Sizes() []int {
 
 // Each hands over all lists of those elements, up to a length. The list is
 // lent: it changes behind each call.
-func Each[E byte | int](of []E, most int, do func(list []E)) {
+func Each[E any](of []E, most int, do func(list []E)) {
 	var list []E
 	var grow func()
 	grow = func() {
@@ -71,14 +71,24 @@ func Pieces[S string | []byte](text S, bits int) []S {
 
 // WithRoom is a copy of s within a longer list: what lies behind it is 0x55.
 func WithRoom[E byte | int](s []E) (whole, part []E) {
-	whole = slices.Concat(s, []E{0x55, 0x55, 0x55, 0x55})
+	return WithRoomOf(s, 0x55)
+}
+
+// WithRoomOf is a copy of s within a longer list: what lies behind it is e.
+func WithRoomOf[E any](s []E, e E) (whole, part []E) {
+	whole = slices.Concat(s, []E{e, e, e, e})
 	return whole, whole[:len(s)]
 }
 
 // Spoil overwrites a list with its spare room.
 func Spoil[E byte | int](s []E) {
+	SpoilBy(s, 0x77)
+}
+
+// SpoilBy overwrites a list with its spare room by e.
+func SpoilBy[E any](s []E, e E) {
 	s = s[:cap(s)]
 	for i := range s {
-		s[i] = 0x77
+		s[i] = e
 	}
 }

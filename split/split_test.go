@@ -589,10 +589,7 @@ func TestWhatIsHandedInIsNotKept(t *testing.T) {
 
 // spoil overwrites records with their spare room.
 func spoil(l []api.Record) {
-	l = l[:cap(l)]
-	for i := range l {
-		l[i] = api.Record{N: -7, At: -7, Text: "spoilt"}
-	}
+	sample.SpoilBy(l, api.Record{N: -7, At: -7, Text: "spoilt"})
 }
 
 func TestAnswersAreNewMemory(t *testing.T) {
