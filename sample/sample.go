@@ -5,6 +5,8 @@ package sample
 import (
 	"math"
 	"slices"
+
+	"reedbed/api"
 )
 
 // Strays are numbers that are no code points.
@@ -36,6 +38,15 @@ func Sizes() []int {
 		math.MinInt, math.MinInt32, -4096, -1, 0, 1, 2, 3, 7, 4095, 4096, 4097, 8192,
 		1<<32 + 2, 1 << 40, math.MaxInt32, math.MaxInt,
 	}
+}
+
+// Ranges are those of these ends, two by two.
+func Ranges(ends ...int) []api.Range {
+	var s []api.Range
+	for i := 0; i < len(ends); i += 2 {
+		s = append(s, api.Range{Lo: ends[i], Hi: ends[i+1]})
+	}
+	return s
 }
 
 // Each hands over all lists of those elements, up to a length. The list is

@@ -12,15 +12,6 @@ import (
 
 const last = 0x10ffff
 
-// ranges are those of these ends, two by two.
-func ranges(ends ...int) []api.Range {
-	var s []api.Range
-	for i := 0; i < len(ends); i += 2 {
-		s = append(s, api.Range{Lo: ends[i], Hi: ends[i+1]})
-	}
-	return s
-}
-
 // outside are numbers that are in no set.
 func outside() []int {
 	return []int{
@@ -87,7 +78,7 @@ func each(ends []int, most int, do func(s []api.Range)) {
 	var of []api.Range
 	sample.Each(ends, 2, func(two []int) {
 		if len(two) == 2 {
-			of = append(of, ranges(two...)...)
+			of = append(of, sample.Ranges(two...)...)
 		}
 	})
 	sample.Each(of, most, do)
@@ -166,51 +157,51 @@ type making struct {
 func makings() []making {
 	return []making{
 		{"no ranges", nil, nil},
-		{"the example", ranges(97, 99, 98, 101, 102, 102), ranges(97, 102)},
-		{"one number", ranges(65, 65), ranges(65, 65)},
-		{"the least number", ranges(0, 0), ranges(0, 0)},
-		{"the greatest number", ranges(last, last), ranges(last, last)},
-		{"all numbers", ranges(0, last), ranges(0, last)},
-		{"what is no code point", ranges(0xd800, 0xdfff), ranges(0xd800, 0xdfff)},
+		{"the example", sample.Ranges(97, 99, 98, 101, 102, 102), sample.Ranges(97, 102)},
+		{"one number", sample.Ranges(65, 65), sample.Ranges(65, 65)},
+		{"the least number", sample.Ranges(0, 0), sample.Ranges(0, 0)},
+		{"the greatest number", sample.Ranges(last, last), sample.Ranges(last, last)},
+		{"all numbers", sample.Ranges(0, last), sample.Ranges(0, last)},
+		{"what is no code point", sample.Ranges(0xd800, 0xdfff), sample.Ranges(0xd800, 0xdfff)},
 
-		{"Lo above Hi", ranges(5, 4), nil},
-		{"Lo far above Hi", ranges(last, 0), nil},
-		{"Lo above Hi at the ends of an int", ranges(math.MaxInt, math.MinInt), nil},
-		{"Lo above Hi, among others", ranges(1, 2, 20, 4, 30, 31), ranges(1, 2, 30, 31)},
-		{"Lo above Hi across the ends", ranges(5, -5, last+5, last-5), nil},
+		{"Lo above Hi", sample.Ranges(5, 4), nil},
+		{"Lo far above Hi", sample.Ranges(last, 0), nil},
+		{"Lo above Hi at the ends of an int", sample.Ranges(math.MaxInt, math.MinInt), nil},
+		{"Lo above Hi, among others", sample.Ranges(1, 2, 20, 4, 30, 31), sample.Ranges(1, 2, 30, 31)},
+		{"Lo above Hi across the ends", sample.Ranges(5, -5, last+5, last-5), nil},
 
-		{"below 0", ranges(-5, -1), nil},
-		{"below 0, one number", ranges(-1, -1), nil},
-		{"far below 0", ranges(math.MinInt, math.MinInt), nil},
-		{"partly below 0", ranges(-5, 0), ranges(0, 0)},
-		{"partly far below 0", ranges(math.MinInt, 7), ranges(0, 7)},
-		{"above the greatest", ranges(last+1, last+5), nil},
-		{"far above the greatest", ranges(math.MaxInt, math.MaxInt), nil},
-		{"partly above the greatest", ranges(last, last+1), ranges(last, last)},
-		{"partly far above the greatest", ranges(7, math.MaxInt), ranges(7, last)},
-		{"beyond both", ranges(math.MinInt, math.MaxInt), ranges(0, last)},
-		{"beyond 32 bits", ranges(1<<32+5, 1<<32+9, -1<<32, -1<<32+9), nil},
-		{"beyond, side by side", ranges(math.MinInt, -1, last+1, math.MaxInt), nil},
-		{"all but one, from beyond", ranges(math.MinInt, 64, 66, math.MaxInt), ranges(0, 64, 66, last)},
+		{"below 0", sample.Ranges(-5, -1), nil},
+		{"below 0, one number", sample.Ranges(-1, -1), nil},
+		{"far below 0", sample.Ranges(math.MinInt, math.MinInt), nil},
+		{"partly below 0", sample.Ranges(-5, 0), sample.Ranges(0, 0)},
+		{"partly far below 0", sample.Ranges(math.MinInt, 7), sample.Ranges(0, 7)},
+		{"above the greatest", sample.Ranges(last+1, last+5), nil},
+		{"far above the greatest", sample.Ranges(math.MaxInt, math.MaxInt), nil},
+		{"partly above the greatest", sample.Ranges(last, last+1), sample.Ranges(last, last)},
+		{"partly far above the greatest", sample.Ranges(7, math.MaxInt), sample.Ranges(7, last)},
+		{"beyond both", sample.Ranges(math.MinInt, math.MaxInt), sample.Ranges(0, last)},
+		{"beyond 32 bits", sample.Ranges(1<<32+5, 1<<32+9, -1<<32, -1<<32+9), nil},
+		{"beyond, side by side", sample.Ranges(math.MinInt, -1, last+1, math.MaxInt), nil},
+		{"all but one, from beyond", sample.Ranges(math.MinInt, 64, 66, math.MaxInt), sample.Ranges(0, 64, 66, last)},
 
-		{"one within another", ranges(1, 9, 3, 4), ranges(1, 9)},
-		{"one within another, from its beginning", ranges(1, 9, 1, 4), ranges(1, 9)},
-		{"one within another, to its end", ranges(1, 9, 4, 9), ranges(1, 9)},
-		{"the same twice", ranges(1, 9, 1, 9), ranges(1, 9)},
-		{"the same number twice", ranges(7, 7, 7, 7), ranges(7, 7)},
-		{"overlapping", ranges(1, 5, 3, 9), ranges(1, 9)},
-		{"overlapping in one number", ranges(1, 5, 5, 9), ranges(1, 9)},
-		{"touching", ranges(1, 5, 6, 9), ranges(1, 9)},
-		{"one number apart", ranges(1, 5, 7, 9), ranges(1, 5, 7, 9)},
-		{"two numbers apart", ranges(1, 5, 8, 9), ranges(1, 5, 8, 9)},
-		{"single ones that touch", ranges(1, 1, 2, 2, 3, 3), ranges(1, 3)},
-		{"single ones apart", ranges(1, 1, 3, 3, 5, 5), ranges(1, 1, 3, 3, 5, 5)},
-		{"joined by one between", ranges(1, 5, 7, 9, 6, 6), ranges(1, 9)},
-		{"joined by one across", ranges(1, 5, 10, 20, 30, 40, 4, 30), ranges(1, 40)},
-		{"one around all", ranges(5, 6, 8, 9, 11, 12, 0, 20), ranges(0, 20)},
-		{"short ones behind a long one", ranges(0, 100, 3, 4, 50, 60, 102, 103), ranges(0, 100, 102, 103)},
-		{"the ends", ranges(last, last, 0, 0), ranges(0, 0, last, last)},
-		{"all in parts", ranges(0x8000, last, 0, 99, 100, 0x7fff), ranges(0, last)},
+		{"one within another", sample.Ranges(1, 9, 3, 4), sample.Ranges(1, 9)},
+		{"one within another, from its beginning", sample.Ranges(1, 9, 1, 4), sample.Ranges(1, 9)},
+		{"one within another, to its end", sample.Ranges(1, 9, 4, 9), sample.Ranges(1, 9)},
+		{"the same twice", sample.Ranges(1, 9, 1, 9), sample.Ranges(1, 9)},
+		{"the same number twice", sample.Ranges(7, 7, 7, 7), sample.Ranges(7, 7)},
+		{"overlapping", sample.Ranges(1, 5, 3, 9), sample.Ranges(1, 9)},
+		{"overlapping in one number", sample.Ranges(1, 5, 5, 9), sample.Ranges(1, 9)},
+		{"touching", sample.Ranges(1, 5, 6, 9), sample.Ranges(1, 9)},
+		{"one number apart", sample.Ranges(1, 5, 7, 9), sample.Ranges(1, 5, 7, 9)},
+		{"two numbers apart", sample.Ranges(1, 5, 8, 9), sample.Ranges(1, 5, 8, 9)},
+		{"single ones that touch", sample.Ranges(1, 1, 2, 2, 3, 3), sample.Ranges(1, 3)},
+		{"single ones apart", sample.Ranges(1, 1, 3, 3, 5, 5), sample.Ranges(1, 1, 3, 3, 5, 5)},
+		{"joined by one between", sample.Ranges(1, 5, 7, 9, 6, 6), sample.Ranges(1, 9)},
+		{"joined by one across", sample.Ranges(1, 5, 10, 20, 30, 40, 4, 30), sample.Ranges(1, 40)},
+		{"one around all", sample.Ranges(5, 6, 8, 9, 11, 12, 0, 20), sample.Ranges(0, 20)},
+		{"short ones behind a long one", sample.Ranges(0, 100, 3, 4, 50, 60, 102, 103), sample.Ranges(0, 100, 102, 103)},
+		{"the ends", sample.Ranges(last, last, 0, 0), sample.Ranges(0, 0, last, last)},
+		{"all in parts", sample.Ranges(0x8000, last, 0, 99, 100, 0x7fff), sample.Ranges(0, last)},
 	}
 }
 
@@ -222,7 +213,7 @@ func TestEdges(t *testing.T) {
 			orders(c.in, func(rs []api.Range) {
 				made(t, rs, c.want)
 				made(t, slices.Concat(rs, rs), c.want)
-				made(t, slices.Concat(rs, ranges(9, 8, -4, -2, last+2, last+3)), c.want)
+				made(t, slices.Concat(rs, sample.Ranges(9, 8, -4, -2, last+2, last+3)), c.want)
 			})
 		})
 	}
@@ -255,17 +246,17 @@ func TestManyRangesOfALongList(t *testing.T) {
 	for i := range 5000 {
 		// Each number of 4 by itself, from the last one on, and each twice.
 		n := 4 * (4999 - i)
-		rs = append(rs, ranges(n, n, n+1, n+1, n, n)...)
-		want = append(want, ranges(4*i, 4*i+1)...)
+		rs = append(rs, sample.Ranges(n, n, n+1, n+1, n, n)...)
+		want = append(want, sample.Ranges(4*i, 4*i+1)...)
 	}
 	made(t, rs, want)
-	made(t, append(rs, ranges(1, 4*4999)...), ranges(0, 4*4999+1))
+	made(t, append(rs, sample.Ranges(1, 4*4999)...), sample.Ranges(0, 4*4999+1))
 }
 
 func TestRight(t *testing.T) {
 	for _, s := range [][]api.Range{
-		nil, {}, ranges(0, 0), ranges(last, last), ranges(0, last), ranges(5, 5, 7, 7),
-		ranges(0, 0, 2, 2), ranges(0, 4, 6, 9, 11, last), ranges(last-2, last-2, last, last),
+		nil, {}, sample.Ranges(0, 0), sample.Ranges(last, last), sample.Ranges(0, last), sample.Ranges(5, 5, 7, 7),
+		sample.Ranges(0, 0, 2, 2), sample.Ranges(0, 4, 6, 9, 11, last), sample.Ranges(last-2, last-2, last, last),
 	} {
 		if !set.Right(s) {
 			t.Errorf("Right(%x) is false", s)
@@ -275,28 +266,28 @@ func TestRight(t *testing.T) {
 		name string
 		s    []api.Range
 	}{
-		{"below 0", ranges(-1, 3)},
-		{"wholly below 0", ranges(-3, -1)},
-		{"far below 0", ranges(math.MinInt, 3, 5, 6)},
-		{"above the greatest", ranges(5, last+1)},
-		{"wholly above the greatest", ranges(last+1, last+2)},
-		{"far above the greatest", ranges(1, 2, 5, math.MaxInt)},
-		{"far above the greatest, with one behind", ranges(1, math.MaxInt, 5, 6)},
-		{"just above the greatest, with one behind", ranges(1, math.MaxInt-2, math.MaxInt, math.MaxInt)},
-		{"Lo above Hi", ranges(5, 4)},
-		{"Lo above Hi ahead", ranges(1, 0, 5, 6)},
-		{"Lo above Hi in the middle", ranges(1, 2, 5, 4, 9, 9)},
-		{"Lo above Hi at the end", ranges(1, 2, 5, 4)},
-		{"not rising", ranges(9, 9, 1, 2)},
-		{"not rising at the end", ranges(1, 2, 9, 9, 4, 5)},
-		{"overlapping", ranges(1, 5, 3, 9)},
-		{"overlapping in one number", ranges(1, 5, 5, 9)},
-		{"one within the other", ranges(1, 9, 3, 4)},
-		{"the same twice", ranges(3, 4, 3, 4)},
-		{"the same number twice", ranges(7, 7, 7, 7)},
-		{"touching", ranges(1, 2, 3, 4)},
-		{"touching, single ones", ranges(0, 0, 1, 1)},
-		{"touching at the end", ranges(1, 2, 4, 5, 6, 9)},
+		{"below 0", sample.Ranges(-1, 3)},
+		{"wholly below 0", sample.Ranges(-3, -1)},
+		{"far below 0", sample.Ranges(math.MinInt, 3, 5, 6)},
+		{"above the greatest", sample.Ranges(5, last+1)},
+		{"wholly above the greatest", sample.Ranges(last+1, last+2)},
+		{"far above the greatest", sample.Ranges(1, 2, 5, math.MaxInt)},
+		{"far above the greatest, with one behind", sample.Ranges(1, math.MaxInt, 5, 6)},
+		{"just above the greatest, with one behind", sample.Ranges(1, math.MaxInt-2, math.MaxInt, math.MaxInt)},
+		{"Lo above Hi", sample.Ranges(5, 4)},
+		{"Lo above Hi ahead", sample.Ranges(1, 0, 5, 6)},
+		{"Lo above Hi in the middle", sample.Ranges(1, 2, 5, 4, 9, 9)},
+		{"Lo above Hi at the end", sample.Ranges(1, 2, 5, 4)},
+		{"not rising", sample.Ranges(9, 9, 1, 2)},
+		{"not rising at the end", sample.Ranges(1, 2, 9, 9, 4, 5)},
+		{"overlapping", sample.Ranges(1, 5, 3, 9)},
+		{"overlapping in one number", sample.Ranges(1, 5, 5, 9)},
+		{"one within the other", sample.Ranges(1, 9, 3, 4)},
+		{"the same twice", sample.Ranges(3, 4, 3, 4)},
+		{"the same number twice", sample.Ranges(7, 7, 7, 7)},
+		{"touching", sample.Ranges(1, 2, 3, 4)},
+		{"touching, single ones", sample.Ranges(0, 0, 1, 1)},
+		{"touching at the end", sample.Ranges(1, 2, 4, 5, 6, 9)},
 	} {
 		if set.Right(c.s) {
 			t.Errorf("%s: Right(%x) is true", c.name, c.s)
@@ -306,8 +297,8 @@ func TestRight(t *testing.T) {
 
 func TestHasAtItsEnds(t *testing.T) {
 	for _, c := range slices.Concat(makings(), []making{
-		{"far apart", ranges(10, 20, 30, 40), ranges(10, 20, 30, 40)},
-		{"no set", ranges(30, 40, 15, 35, 10, 20, 17, 18), ranges(10, 40)},
+		{"far apart", sample.Ranges(10, 20, 30, 40), sample.Ranges(10, 20, 30, 40)},
+		{"no set", sample.Ranges(30, 40, 15, 35, 10, 20, 17, 18), sample.Ranges(10, 40)},
 	}) {
 		for _, part := range slices.Concat(c.in, c.want) {
 			for _, end := range []int{part.Lo, part.Hi} {
@@ -334,7 +325,7 @@ func TestHasOfMany(t *testing.T) {
 
 func TestHasOfAllNumbers(t *testing.T) {
 	for _, rs := range [][]api.Range{
-		ranges(0, last), ranges(math.MinInt, math.MaxInt), ranges(5, 4), ranges(0x80, 0xd7ff, 0xd801, 0x10000, 0x9000, 0x9001), ranges(last, 3),
+		sample.Ranges(0, last), sample.Ranges(math.MinInt, math.MaxInt), sample.Ranges(5, 4), sample.Ranges(0x80, 0xd7ff, 0xd801, 0x10000, 0x9000, 0x9001), sample.Ranges(last, 3),
 	} {
 		for _, r := range all() {
 			if set.Has(rs, r) != in(rs, r) {
@@ -342,7 +333,7 @@ func TestHasOfAllNumbers(t *testing.T) {
 			}
 		}
 		for _, r := range outside() {
-			if set.Has(rs, r) || set.Has(append(ranges(r, r, r-1, r+1), rs...), r) {
+			if set.Has(rs, r) || set.Has(append(sample.Ranges(r, r, r-1, r+1), rs...), r) {
 				t.Errorf("Has(%x, %x) is true", rs, r)
 			}
 		}
@@ -357,24 +348,24 @@ func TestCountAndOnly(t *testing.T) {
 		is   bool
 	}{
 		{nil, 0, 0, false},
-		{ranges(5, 4), 0, 0, false},
-		{ranges(-1, -1), 0, 0, false},
-		{ranges(last+1, last+1), 0, 0, false},
-		{ranges(0, 0), 1, 0, true},
-		{ranges(last, last), 1, last, true},
-		{ranges(-5, 0), 1, 0, true},
-		{ranges(last, math.MaxInt), 1, last, true},
-		{ranges(5, 5, 5, 5), 1, 5, true},
-		{ranges(5, 5, 9, 8, -1, -1), 1, 5, true},
-		{ranges(5, 6), 2, 0, false},
-		{ranges(5, 5, 6, 6), 2, 0, false},
-		{ranges(5, 5, 7, 7), 2, 0, false},
-		{ranges(7, 7, 5, 5, 7, 7), 2, 0, false},
-		{ranges(10, 20, 30, 40), 22, 0, false},
-		{ranges(30, 40, 10, 20, 15, 35), 31, 0, false},
-		{ranges(0, last), 0x110000, 0, false},
-		{ranges(math.MinInt, math.MaxInt, math.MinInt, math.MaxInt), 0x110000, 0, false},
-		{ranges(1, last), 0x10ffff, 0, false},
+		{sample.Ranges(5, 4), 0, 0, false},
+		{sample.Ranges(-1, -1), 0, 0, false},
+		{sample.Ranges(last+1, last+1), 0, 0, false},
+		{sample.Ranges(0, 0), 1, 0, true},
+		{sample.Ranges(last, last), 1, last, true},
+		{sample.Ranges(-5, 0), 1, 0, true},
+		{sample.Ranges(last, math.MaxInt), 1, last, true},
+		{sample.Ranges(5, 5, 5, 5), 1, 5, true},
+		{sample.Ranges(5, 5, 9, 8, -1, -1), 1, 5, true},
+		{sample.Ranges(5, 6), 2, 0, false},
+		{sample.Ranges(5, 5, 6, 6), 2, 0, false},
+		{sample.Ranges(5, 5, 7, 7), 2, 0, false},
+		{sample.Ranges(7, 7, 5, 5, 7, 7), 2, 0, false},
+		{sample.Ranges(10, 20, 30, 40), 22, 0, false},
+		{sample.Ranges(30, 40, 10, 20, 15, 35), 31, 0, false},
+		{sample.Ranges(0, last), 0x110000, 0, false},
+		{sample.Ranges(math.MinInt, math.MaxInt, math.MinInt, math.MaxInt), 0x110000, 0, false},
+		{sample.Ranges(1, last), 0x10ffff, 0, false},
 	} {
 		if n := set.Count(c.s); n != c.n {
 			t.Errorf("Count(%x) = %d; want %d", c.s, n, c.n)
@@ -389,19 +380,19 @@ func TestCountAndOnly(t *testing.T) {
 
 func TestNot(t *testing.T) {
 	for _, c := range []struct{ s, want []api.Range }{
-		{nil, ranges(0, last)},
-		{ranges(0, last), nil},
-		{ranges(math.MinInt, math.MaxInt), nil},
-		{ranges(5, 4, -9, -1, last+1, last+9), ranges(0, last)},
-		{ranges(0, 0), ranges(1, last)},
-		{ranges(1, 1), ranges(0, 0, 2, last)},
-		{ranges(last, last), ranges(0, last-1)},
-		{ranges(last-1, last-1), ranges(0, last-2, last, last)},
-		{ranges(0, 9, 11, last), ranges(10, 10)},
-		{ranges(10, 20, 30, 40), ranges(0, 9, 21, 29, 41, last)},
-		{ranges(30, 40, 10, 20, 18, 25, 41, 41), ranges(0, 9, 26, 29, 42, last)},
-		{ranges(0, 0, last, last), ranges(1, last-1)},
-		{ranges(0xd800, 0xdfff), ranges(0, 0xd7ff, 0xe000, last)},
+		{nil, sample.Ranges(0, last)},
+		{sample.Ranges(0, last), nil},
+		{sample.Ranges(math.MinInt, math.MaxInt), nil},
+		{sample.Ranges(5, 4, -9, -1, last+1, last+9), sample.Ranges(0, last)},
+		{sample.Ranges(0, 0), sample.Ranges(1, last)},
+		{sample.Ranges(1, 1), sample.Ranges(0, 0, 2, last)},
+		{sample.Ranges(last, last), sample.Ranges(0, last-1)},
+		{sample.Ranges(last-1, last-1), sample.Ranges(0, last-2, last, last)},
+		{sample.Ranges(0, 9, 11, last), sample.Ranges(10, 10)},
+		{sample.Ranges(10, 20, 30, 40), sample.Ranges(0, 9, 21, 29, 41, last)},
+		{sample.Ranges(30, 40, 10, 20, 18, 25, 41, 41), sample.Ranges(0, 9, 26, 29, 42, last)},
+		{sample.Ranges(0, 0, last, last), sample.Ranges(1, last-1)},
+		{sample.Ranges(0xd800, 0xdfff), sample.Ranges(0, 0xd7ff, 0xe000, last)},
 	} {
 		same(t, "Not", c.s, set.Not(c.s), c.want)
 	}
@@ -417,24 +408,24 @@ func TestNotOfMany(t *testing.T) {
 }
 
 func TestOrAndAnd(t *testing.T) {
-	all := ranges(0, last)
+	all := sample.Ranges(0, last)
 	for _, c := range []struct{ s, t, or, and []api.Range }{
 		{nil, nil, nil, nil},
 		{nil, all, all, nil},
 		{all, all, all, all},
-		{ranges(math.MinInt, math.MaxInt), ranges(5, 5), all, ranges(5, 5)},
-		{ranges(5, 4), ranges(-9, -1, last+1, last+9), nil, nil},
-		{ranges(10, 20, 30, 40), ranges(15, 35), ranges(10, 40), ranges(15, 20, 30, 35)},
-		{ranges(10, 20), ranges(20, 30), ranges(10, 30), ranges(20, 20)},
-		{ranges(10, 20), ranges(21, 30), ranges(10, 30), nil},
-		{ranges(10, 20), ranges(22, 30), ranges(10, 20, 22, 30), nil},
-		{ranges(10, 40), ranges(20, 30), ranges(10, 40), ranges(20, 30)},
-		{ranges(0, 0, 2, 2, 4, 4), ranges(1, 1, 3, 3), ranges(0, 4), nil},
-		{ranges(0, 1, 3, 4), ranges(1, 3), ranges(0, 4), ranges(1, 1, 3, 3)},
-		{ranges(9, 9, 1, 3, 2, 5), ranges(7, 9, 4, 4), ranges(1, 5, 7, 9), ranges(4, 4, 9, 9)},
-		{ranges(5, 5), ranges(5, 5), ranges(5, 5), ranges(5, 5)},
-		{ranges(-5, 5), ranges(-9, 0, last, last+9), ranges(0, 5, last, last), ranges(0, 0)},
-		{ranges(0, 0xffff), ranges(0xd800, last), all, ranges(0xd800, 0xffff)},
+		{sample.Ranges(math.MinInt, math.MaxInt), sample.Ranges(5, 5), all, sample.Ranges(5, 5)},
+		{sample.Ranges(5, 4), sample.Ranges(-9, -1, last+1, last+9), nil, nil},
+		{sample.Ranges(10, 20, 30, 40), sample.Ranges(15, 35), sample.Ranges(10, 40), sample.Ranges(15, 20, 30, 35)},
+		{sample.Ranges(10, 20), sample.Ranges(20, 30), sample.Ranges(10, 30), sample.Ranges(20, 20)},
+		{sample.Ranges(10, 20), sample.Ranges(21, 30), sample.Ranges(10, 30), nil},
+		{sample.Ranges(10, 20), sample.Ranges(22, 30), sample.Ranges(10, 20, 22, 30), nil},
+		{sample.Ranges(10, 40), sample.Ranges(20, 30), sample.Ranges(10, 40), sample.Ranges(20, 30)},
+		{sample.Ranges(0, 0, 2, 2, 4, 4), sample.Ranges(1, 1, 3, 3), sample.Ranges(0, 4), nil},
+		{sample.Ranges(0, 1, 3, 4), sample.Ranges(1, 3), sample.Ranges(0, 4), sample.Ranges(1, 1, 3, 3)},
+		{sample.Ranges(9, 9, 1, 3, 2, 5), sample.Ranges(7, 9, 4, 4), sample.Ranges(1, 5, 7, 9), sample.Ranges(4, 4, 9, 9)},
+		{sample.Ranges(5, 5), sample.Ranges(5, 5), sample.Ranges(5, 5), sample.Ranges(5, 5)},
+		{sample.Ranges(-5, 5), sample.Ranges(-9, 0, last, last+9), sample.Ranges(0, 5, last, last), sample.Ranges(0, 0)},
+		{sample.Ranges(0, 0xffff), sample.Ranges(0xd800, last), all, sample.Ranges(0xd800, 0xffff)},
 	} {
 		both := slices.Concat(c.s, c.t)
 		for range 2 {
@@ -446,7 +437,7 @@ func TestOrAndAnd(t *testing.T) {
 }
 
 func TestTwiceOver(t *testing.T) {
-	all := ranges(0, last)
+	all := sample.Ranges(0, last)
 	each(few(), 2, func(s []api.Range) {
 		is, others := set.Of(s...), set.Not(s)
 		same(t, "Of", s, set.Of(is...), is)
@@ -483,12 +474,12 @@ func TestOrAndAndOfMany(t *testing.T) {
 // letters are those that have a set, with it.
 func letters() map[byte][]api.Range {
 	return map[byte][]api.Range{
-		'd': ranges(0x30, 0x39),
-		'w': ranges(0x30, 0x39, 0x41, 0x5a, 0x5f, 0x5f, 0x61, 0x7a),
-		's': ranges(9, 13, 0x20, 0x20),
-		'D': ranges(0, 0x2f, 0x3a, last),
-		'W': ranges(0, 0x2f, 0x3a, 0x40, 0x5b, 0x5e, 0x60, 0x60, 0x7b, last),
-		'S': ranges(0, 8, 14, 0x1f, 0x21, last),
+		'd': sample.Ranges(0x30, 0x39),
+		'w': sample.Ranges(0x30, 0x39, 0x41, 0x5a, 0x5f, 0x5f, 0x61, 0x7a),
+		's': sample.Ranges(9, 13, 0x20, 0x20),
+		'D': sample.Ranges(0, 0x2f, 0x3a, last),
+		'W': sample.Ranges(0, 0x2f, 0x3a, 0x40, 0x5b, 0x5e, 0x60, 0x60, 0x7b, last),
+		'S': sample.Ranges(0, 8, 14, 0x1f, 0x21, last),
 	}
 }
 
@@ -559,12 +550,12 @@ func asks() map[string]func(s, t []api.Range) []api.Range {
 // two are lists to ask with: sets, and such as aren't.
 func two() [][2][]api.Range {
 	return [][2][]api.Range{
-		{ranges(10, 20, 30, 40), ranges(15, 35)},
-		{ranges(10, 20, 30, 40), ranges(10, 20, 30, 40)},
-		{ranges(30, 40, 10, 20, 9, 3), ranges(35, 35, 12, 15, 14, 16)},
-		{ranges(10, 20), nil},
-		{ranges(0, last), ranges(7, 7)},
-		{ranges(-5, 7, 9, math.MaxInt), ranges(math.MinInt, math.MaxInt)},
+		{sample.Ranges(10, 20, 30, 40), sample.Ranges(15, 35)},
+		{sample.Ranges(10, 20, 30, 40), sample.Ranges(10, 20, 30, 40)},
+		{sample.Ranges(30, 40, 10, 20, 9, 3), sample.Ranges(35, 35, 12, 15, 14, 16)},
+		{sample.Ranges(10, 20), nil},
+		{sample.Ranges(0, last), sample.Ranges(7, 7)},
+		{sample.Ranges(-5, 7, 9, math.MaxInt), sample.Ranges(math.MinInt, math.MaxInt)},
 		{nil, nil},
 	}
 }
@@ -620,11 +611,11 @@ func TestWhatIsHandedInStays(t *testing.T) {
 // TestPartsOfOneList: both lists may be parts of one, the second one in the
 // first one's room.
 func TestPartsOfOneList(t *testing.T) {
-	whole := ranges(30, 40, 10, 20, 15, 32, 50, 60)
+	whole := sample.Ranges(30, 40, 10, 20, 15, 32, 50, 60)
 	before := slices.Clone(whole)
 	for n := range len(whole) + 1 {
 		s, u := whole[:n], whole[n:]
-		same(t, "Or", whole, set.Or(s, u), ranges(10, 40, 50, 60))
+		same(t, "Or", whole, set.Or(s, u), sample.Ranges(10, 40, 50, 60))
 		want := plain(all(), func(r int) bool { return in(before[:n], r) && in(before[n:], r) })
 		same(t, "And", whole, set.And(s, u), want)
 		same(t, "Not", s, set.Not(s), set.Not(before[:n]))
