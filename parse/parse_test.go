@@ -13,27 +13,13 @@ import (
 const last = 0x10ffff
 
 // The trees, by hand.
-
-func empty() api.Node { return api.Node{Op: api.OpEmpty} }
-func begin() api.Node { return api.Node{Op: api.OpBegin} }
-func end() api.Node   { return api.Node{Op: api.OpEnd} }
-
-// char is one of the ranges of these ends, two by two.
-func char(ends ...int) api.Node {
-	return api.Node{Op: api.OpChar, Set: sample.Ranges(ends...)}
-}
-
-// one is just that number.
-func one(r int) api.Node { return char(r, r) }
+var (
+	empty, begin, end = sample.Empty, sample.Begin, sample.End
+	char, one         = sample.Char, sample.One
+	cat, alt, rep     = sample.Cat, sample.Alt, sample.Rep
+)
 
 func dot() api.Node { return char(0, 9, 11, last) }
-
-func cat(kids ...api.Node) api.Node { return api.Node{Op: api.OpCat, Kids: kids} }
-func alt(kids ...api.Node) api.Node { return api.Node{Op: api.OpAlt, Kids: kids} }
-
-func rep(least, most int, kids ...api.Node) api.Node {
-	return api.Node{Op: api.OpRep, Min: least, Max: most, Kids: kids}
-}
 
 // named are the sets of the letters that have one, as the document's words tell
 // them.

@@ -1,7 +1,6 @@
 package parse_test
 
 import (
-	"fmt"
 	"math"
 	"slices"
 	"strings"
@@ -291,33 +290,12 @@ func TestDeepTrees(t *testing.T) {
 // rich is a pattern in which all is that has lists.
 const rich = `^(ab|[a-cx\d]*|(\D|.){2,3})[^\s]\n(|\w)(\w|\w|.)a*a*$`
 
-// lists are all of a tree's.
-func lists(n api.Node) (sets [][]api.Range, kids [][]api.Node) {
-	sets, kids = [][]api.Range{n.Set}, [][]api.Node{n.Kids}
-	for _, kid := range n.Kids {
-		s, k := lists(kid)
-		sets, kids = append(sets, s...), append(kids, k...)
-	}
-	return sets, kids
-}
-
-// spoil overwrites all lists of a tree, with their spare room.
-func spoil(n api.Node) {
-	sets, kids := lists(n)
-	for _, s := range sets {
-		sample.SpoilBy(s, api.Range{Lo: 7, Hi: 8})
-	}
-	for _, k := range kids {
-		sample.SpoilBy(k, api.Node{Op: 9, Min: 9})
-	}
-}
-
 func TestAnswersAreNewMemory(t *testing.T) {
 	for _, s := range []string{rich, "a", ".", `\d`, `\D`, `\w`, `\W`, `\s`, `\S`, "[a]", "[^a]", `[\w]`, `[^\D]`, "a|b", "ab", "a*", "(((ab)))", "|", "^$", ""} {
 		first, _ := parse.Parse(s)
 		second, _ := parse.Parse(s)
 		want := parse.Show(second)
-		spoil(first)
+		sample.SpoilTree(first)
 		if got := parse.Show(second); got != want {
 			t.Errorf("%q: answers share memory: now %s; want %s", s, got, want)
 		}
@@ -327,18 +305,9 @@ func TestAnswersAreNewMemory(t *testing.T) {
 	}
 }
 
-// flat is what a list holds, without what its nodes' lists hold.
-func flat(kids []api.Node) string {
-	var b strings.Builder
-	for _, n := range kids {
-		fmt.Fprint(&b, n.Op, n.Min, n.Max, len(n.Set), len(n.Kids), ";")
-	}
-	return b.String()
-}
-
 func TestListsOfOneAnswer(t *testing.T) {
 	n, _ := parse.Parse(rich)
-	sets, kids := lists(n)
+	sets, kids := sample.TreeLists(n)
 	for i := range sets {
 		// Each list but the one that is spoilt stays.
 		for k, others := range sets {
@@ -351,10 +320,10 @@ func TestListsOfOneAnswer(t *testing.T) {
 			copy(sets[i][:cap(sets[i])], saved)
 		}
 		for k, others := range kids {
-			before := flat(others)
+			before := slices.Clone(others)
 			saved := slices.Clone(kids[i][:cap(kids[i])])
 			sample.SpoilBy(kids[i], api.Node{Op: 9, Min: 9})
-			if i != k && flat(others) != before {
+			if i != k && !slices.EqualFunc(others, before, sample.SameButLists) {
 				t.Errorf("lists of kids %d and %d share memory", i, k)
 			}
 			copy(kids[i][:cap(kids[i])], saved)
@@ -362,38 +331,16 @@ func TestListsOfOneAnswer(t *testing.T) {
 	}
 }
 
-// roomy is a copy of a tree, each list of which has others behind it: all that is
-// handed over as whole lists.
-func roomy(n api.Node, whole func(sets []api.Range, kids []api.Node)) api.Node {
-	var kids []api.Node
-	for _, kid := range n.Kids {
-		kids = append(kids, roomy(kid, whole))
-	}
-	wholeSet, set := sample.WithRoomOf(n.Set, api.Range{Lo: 3, Hi: 4})
-	wholeKids, part := sample.WithRoomOf(kids, api.Node{Op: 8})
-	whole(wholeSet, wholeKids)
-	n.Set, n.Kids = set, part
-	return n
-}
-
 func TestWhatIsHandedInStays(t *testing.T) {
 	bare, _ := parse.Parse(rich)
 	for _, tree := range []api.Node{bare, laden(api.OpRep), laden(9), cat(laden(api.OpEmpty), char(5, 4, 1, 2), rep(-1, -2)), {}} {
-		var sets, setsBefore [][]api.Range
-		var kids [][]api.Node
-		var kidsBefore []string
-		n := roomy(tree, func(s []api.Range, k []api.Node) {
-			sets, setsBefore = append(sets, s), append(setsBefore, slices.Clone(s))
-			kids, kidsBefore = append(kids, k), append(kidsBefore, flat(k))
-		})
+		n, stays := sample.RoomyTree(tree)
 		// The room behind lists isn't seen either.
 		if parse.Show(n) != parse.Show(tree) || parse.Size(n) != parse.Size(tree) || !parse.Same(n, tree) || !parse.Same(tree, n) || !parse.Same(n, n) {
 			t.Errorf("with room %s, %d; want %s", parse.Show(n), parse.Size(n), parse.Show(tree))
 		}
-		for i := range sets {
-			if !slices.Equal(sets[i], setsBefore[i]) || flat(kids[i]) != kidsBefore[i] {
-				t.Errorf("%v: list %d was changed", tree, i)
-			}
+		if !stays() {
+			t.Errorf("%v was changed", tree)
 		}
 	}
 }
