@@ -11,38 +11,23 @@ import (
 	"reedbed/sample"
 )
 
-// places are some of a text, each as a bit.
-type places uint64
-
-func place(ats ...int) places {
-	var s places
-	for _, at := range ats {
-		s |= 1 << at
-	}
-	return s
-}
-
-func has(s []api.Range, r int) bool {
-	return slices.ContainsFunc(s, func(part api.Range) bool { return part.Lo <= r && r <= part.Hi })
-}
-
 // treeEnds are a tree's over a text, from any of these places, by the document's
 // words.
-func treeEnds(n api.Node, text []int, from places) places {
-	var ends places
+func treeEnds(n api.Node, text []int, from sample.Places) sample.Places {
+	var ends sample.Places
 	switch n.Op {
 	case api.OpEmpty:
 		return from
 	case api.OpChar:
 		for at, r := range text {
-			if from&place(at) != 0 && has(n.Set, r) {
-				ends |= place(at + 1)
+			if from&sample.At(at) != 0 && sample.InRanges(n.Set, r) {
+				ends |= sample.At(at + 1)
 			}
 		}
 	case api.OpBegin:
-		return from & place(0)
+		return from & sample.At(0)
 	case api.OpEnd:
-		return from & place(len(text))
+		return from & sample.At(len(text))
 	case api.OpCat:
 		for _, kid := range n.Kids {
 			from = treeEnds(kid, text, from)
@@ -65,40 +50,6 @@ func treeEnds(n api.Node, text []int, from places) places {
 			ends = more
 		}
 	}
-	return ends
-}
-
-// programEnds are a program's over a text from a place, by all ways.
-func programEnds(p []api.Inst, text []int, from int) places {
-	var ends places
-	met := make([]places, len(p)) // at which places each instruction was met
-	var run func(i, at int)
-	run = func(i, at int) {
-		if met[i]&place(at) != 0 {
-			return
-		}
-		met[i] |= place(at)
-		switch in := p[i]; in.Op {
-		case api.InMatch:
-			ends |= place(at)
-		case api.InChar:
-			if at < len(text) && has(in.Set, text[at]) {
-				run(in.X, at+1)
-			}
-		case api.InSplit:
-			run(in.X, at)
-			run(in.Y, at)
-		case api.InBegin:
-			if at == 0 {
-				run(in.X, at)
-			}
-		case api.InEnd:
-			if at == len(text) {
-				run(in.X, at)
-			}
-		}
-	}
-	run(0, from)
 	return ends
 }
 
@@ -134,26 +85,17 @@ func compiles(t *testing.T, n api.Node, texts ...[]int) {
 	}
 	for _, text := range texts {
 		for at := range len(text) + 1 {
-			if got, want := programEnds(p, text, at), treeEnds(n, text, place(at)); got != want {
+			if got, want := sample.ProgramEnds(p, text, at), treeEnds(n, text, sample.At(at)); got != want {
 				t.Fatalf("%s over %v from %d: %b; want %b: %v", parse.Show(n), text, at, got, want, p)
 			}
 		}
 	}
 }
 
-// points are a text's code points.
-func points(s string) []int {
-	var text []int
-	for _, r := range s {
-		text = append(text, int(r))
-	}
-	return text
-}
-
 // texts are all of those letters, up to so many.
 func texts(letters string, most int) [][]int {
 	var all [][]int
-	sample.Each([]byte(letters), most, func(s []byte) { all = append(all, points(string(s))) })
+	sample.Each([]byte(letters), most, func(s []byte) { all = append(all, sample.Points(string(s))) })
 	return all
 }
 
@@ -163,27 +105,27 @@ func TestEnds(t *testing.T) {
 	for _, x := range []struct {
 		pattern, text string
 		at            int
-		want          places
+		want          sample.Places
 	}{
-		{"", "", 0, place(0)}, {"", "ab", 0, place(0)}, {"", "ab", 1, place(1)}, {"", "ab", 2, place(2)},
-		{"a", "", 0, 0}, {"a", "aa", 0, place(1)}, {"a", "aa", 1, place(2)}, {"a", "aa", 2, 0}, {"a", "ba", 0, 0},
-		{"^", "", 0, place(0)}, {"^", "ab", 0, place(0)}, {"^", "ab", 1, 0}, {"^", "ab", 2, 0},
-		{"$", "", 0, place(0)}, {"$", "ab", 0, 0}, {"$", "ab", 1, 0}, {"$", "ab", 2, place(2)},
-		{"^$", "", 0, place(0)}, {"^$", "a", 0, 0}, {"^$", "a", 1, 0}, {"$^", "", 0, place(0)},
-		{"ab", "ab", 0, place(2)}, {"ab", "aab", 1, place(3)}, {"ab", "aab", 0, 0}, {"a^b", "ab", 0, 0}, {"a$b", "ab", 0, 0}, {"^ab$", "ab", 0, place(2)}, {"b$", "ab", 1, place(2)}, {"^b", "ab", 1, 0},
-		{"ab|a|abc", "abcd", 0, place(1, 2, 3)}, {"a|b", "ab", 1, place(2)}, {"a|", "a", 0, place(0, 1)}, {"|a", "a", 0, place(0, 1)}, {"a|a", "a", 0, place(1)}, {"^|$", "ab", 0, place(0)}, {"^|$", "ab", 1, 0}, {"^|$", "ab", 2, place(2)},
-		{"a*", "aaab", 0, place(0, 1, 2, 3)}, {"a*", "aaab", 2, place(2, 3)}, {"a*", "aaab", 3, place(3)}, {"a*", "aaab", 4, place(4)},
-		{"a+", "aaab", 0, place(1, 2, 3)}, {"a+", "aaab", 3, 0}, {"a?", "aaab", 0, place(0, 1)}, {"a?", "aaab", 1, place(1, 2)}, {"a?", "aaab", 3, place(3)},
-		{"a{0}", "aaab", 1, place(1)}, {"a{0,0}", "aaab", 0, place(0)}, {"a{1}", "aaab", 0, place(1)}, {"a{2}", "aaab", 0, place(2)}, {"a{2}", "aaab", 1, place(3)}, {"a{2}", "aaab", 2, 0},
-		{"a{2,}", "aaaa", 0, place(2, 3, 4)}, {"a{2,}", "aaaa", 3, 0}, {"a{1,2}", "aaaa", 0, place(1, 2)}, {"a{2,3}", "aaaa", 0, place(2, 3)}, {"a{0,3}", "aaaa", 0, place(0, 1, 2, 3)}, {"a{4,50}", "aaaa", 0, place(4)}, {"a{5,50}", "aaaa", 0, 0},
-		{"a{1,2}b?", "aab", 0, place(1, 2, 3)}, {"(ab)*", "ababa", 0, place(0, 2, 4)}, {"(a|ab)(b|)", "abb", 0, place(1, 2, 3)}, {"(a*)*", "aa", 0, place(0, 1, 2)}, {"(a{2}){1,2}", "aaaaaa", 0, place(2, 4)}, {"(a{2,3}){2}", "aaaaaaa", 0, place(4, 5, 6)},
-		{"()*", "a", 0, place(0)}, {"()+", "a", 1, place(1)}, {"(^)*", "a", 0, place(0)}, {"(^)*", "a", 1, place(1)}, {"(^)+", "a", 1, 0}, {"($){3}", "a", 1, place(1)}, {"(^a)*", "aa", 0, place(0, 1)}, {"(^a)*", "aa", 1, place(1)},
-		{`[^\d\D]`, "a", 0, 0}, {`[^\d\D]*`, "a", 0, place(0)}, {`[^\d\D]+`, "a", 0, 0}, {`[^\d\D]{0}a`, "a", 0, place(1)}, {`[^\d\D]|a`, "a", 0, place(1)}, {`a[^\d\D]?`, "a", 0, place(1)},
+		{"", "", 0, sample.At(0)}, {"", "ab", 0, sample.At(0)}, {"", "ab", 1, sample.At(1)}, {"", "ab", 2, sample.At(2)},
+		{"a", "", 0, 0}, {"a", "aa", 0, sample.At(1)}, {"a", "aa", 1, sample.At(2)}, {"a", "aa", 2, 0}, {"a", "ba", 0, 0},
+		{"^", "", 0, sample.At(0)}, {"^", "ab", 0, sample.At(0)}, {"^", "ab", 1, 0}, {"^", "ab", 2, 0},
+		{"$", "", 0, sample.At(0)}, {"$", "ab", 0, 0}, {"$", "ab", 1, 0}, {"$", "ab", 2, sample.At(2)},
+		{"^$", "", 0, sample.At(0)}, {"^$", "a", 0, 0}, {"^$", "a", 1, 0}, {"$^", "", 0, sample.At(0)},
+		{"ab", "ab", 0, sample.At(2)}, {"ab", "aab", 1, sample.At(3)}, {"ab", "aab", 0, 0}, {"a^b", "ab", 0, 0}, {"a$b", "ab", 0, 0}, {"^ab$", "ab", 0, sample.At(2)}, {"b$", "ab", 1, sample.At(2)}, {"^b", "ab", 1, 0},
+		{"ab|a|abc", "abcd", 0, sample.At(1, 2, 3)}, {"a|b", "ab", 1, sample.At(2)}, {"a|", "a", 0, sample.At(0, 1)}, {"|a", "a", 0, sample.At(0, 1)}, {"a|a", "a", 0, sample.At(1)}, {"^|$", "ab", 0, sample.At(0)}, {"^|$", "ab", 1, 0}, {"^|$", "ab", 2, sample.At(2)},
+		{"a*", "aaab", 0, sample.At(0, 1, 2, 3)}, {"a*", "aaab", 2, sample.At(2, 3)}, {"a*", "aaab", 3, sample.At(3)}, {"a*", "aaab", 4, sample.At(4)},
+		{"a+", "aaab", 0, sample.At(1, 2, 3)}, {"a+", "aaab", 3, 0}, {"a?", "aaab", 0, sample.At(0, 1)}, {"a?", "aaab", 1, sample.At(1, 2)}, {"a?", "aaab", 3, sample.At(3)},
+		{"a{0}", "aaab", 1, sample.At(1)}, {"a{0,0}", "aaab", 0, sample.At(0)}, {"a{1}", "aaab", 0, sample.At(1)}, {"a{2}", "aaab", 0, sample.At(2)}, {"a{2}", "aaab", 1, sample.At(3)}, {"a{2}", "aaab", 2, 0},
+		{"a{2,}", "aaaa", 0, sample.At(2, 3, 4)}, {"a{2,}", "aaaa", 3, 0}, {"a{1,2}", "aaaa", 0, sample.At(1, 2)}, {"a{2,3}", "aaaa", 0, sample.At(2, 3)}, {"a{0,3}", "aaaa", 0, sample.At(0, 1, 2, 3)}, {"a{4,50}", "aaaa", 0, sample.At(4)}, {"a{5,50}", "aaaa", 0, 0},
+		{"a{1,2}b?", "aab", 0, sample.At(1, 2, 3)}, {"(ab)*", "ababa", 0, sample.At(0, 2, 4)}, {"(a|ab)(b|)", "abb", 0, sample.At(1, 2, 3)}, {"(a*)*", "aa", 0, sample.At(0, 1, 2)}, {"(a{2}){1,2}", "aaaaaa", 0, sample.At(2, 4)}, {"(a{2,3}){2}", "aaaaaaa", 0, sample.At(4, 5, 6)},
+		{"()*", "a", 0, sample.At(0)}, {"()+", "a", 1, sample.At(1)}, {"(^)*", "a", 0, sample.At(0)}, {"(^)*", "a", 1, sample.At(1)}, {"(^)+", "a", 1, 0}, {"($){3}", "a", 1, sample.At(1)}, {"(^a)*", "aa", 0, sample.At(0, 1)}, {"(^a)*", "aa", 1, sample.At(1)},
+		{`[^\d\D]`, "a", 0, 0}, {`[^\d\D]*`, "a", 0, sample.At(0)}, {`[^\d\D]+`, "a", 0, 0}, {`[^\d\D]{0}a`, "a", 0, sample.At(1)}, {`[^\d\D]|a`, "a", 0, sample.At(1)}, {`a[^\d\D]?`, "a", 0, sample.At(1)},
 	} {
-		n, text := parsed(t, x.pattern), points(x.text)
+		n, text := parsed(t, x.pattern), sample.Points(x.text)
 		compiles(t, n, text)
 		p, _ := prog.Compile(n)
-		if got := programEnds(p, text, x.at); got != x.want {
+		if got := sample.ProgramEnds(p, text, x.at); got != x.want {
 			t.Errorf("%q over %q from %d: %b; want %b", x.pattern, x.text, x.at, got, x.want)
 		}
 	}
@@ -240,7 +182,7 @@ func TestAllCounts(t *testing.T) {
 		a, never, empty(), begin(), end(), cat(a, b), cat(a, a), cat(a, never), cat(begin(), a), cat(a, end()), alt(a, b), alt(a, cat(a, a)), alt(a, empty()), alt(empty(), a), alt(never, empty()), alt(begin(), a), alt(a, end()),
 		rep(0, -1, a), rep(1, -1, a), rep(0, 1, a), rep(2, 2, a), rep(2, 3, a), rep(0, 0, a), rep(3, -1, a), rep(0, -1, empty()), rep(0, 2, rep(0, 2, a)), rep(0, -1, rep(0, -1, a)), cat(rep(0, 1, a), rep(0, 1, b)), rep(0, -1, alt(a, empty())),
 	}
-	over := append(texts("ab", 3), points("aaaaaaaaaaaa"), points("aaaaaaaab"), points("abababab"), points("aabaabaa"))
+	over := append(texts("ab", 3), sample.Points("aaaaaaaaaaaa"), sample.Points("aaaaaaaab"), sample.Points("abababab"), sample.Points("aabaabaa"))
 	for _, kid := range kids {
 		for least := range 5 {
 			compiles(t, rep(least, -1, kid), over...)
@@ -252,17 +194,17 @@ func TestAllCounts(t *testing.T) {
 		}
 	}
 	for _, kid := range []api.Node{a, never, empty(), cat(a, b), alt(a, empty())} {
-		compiles(t, rep(50, 50, kid), points(strings.Repeat("a", 51)), points(strings.Repeat("ab", 31)))
-		compiles(t, rep(49, -1, kid), points(strings.Repeat("a", 51)), points(strings.Repeat("ab", 31)))
-		compiles(t, rep(0, 50, kid), points(strings.Repeat("a", 51)), points(strings.Repeat("ab", 31)))
-		compiles(t, rep(47, 50, kid), points(strings.Repeat("a", 49)), points(strings.Repeat("ab", 31)))
+		compiles(t, rep(50, 50, kid), sample.Points(strings.Repeat("a", 51)), sample.Points(strings.Repeat("ab", 31)))
+		compiles(t, rep(49, -1, kid), sample.Points(strings.Repeat("a", 51)), sample.Points(strings.Repeat("ab", 31)))
+		compiles(t, rep(0, 50, kid), sample.Points(strings.Repeat("a", 51)), sample.Points(strings.Repeat("ab", 31)))
+		compiles(t, rep(47, 50, kid), sample.Points(strings.Repeat("a", 49)), sample.Points(strings.Repeat("ab", 31)))
 	}
 }
 
 // TestManyKids: far more than two.
 func TestManyKids(t *testing.T) {
 	letters := []api.Node{a, b, c, alt(a, b), empty(), rep(0, 1, c), cat(a, b), rep(1, 2, b)}
-	over := append(texts("abc", 4), points("abcabbcabbb"), points("abcaabbb"))
+	over := append(texts("abc", 4), sample.Points("abcabbcabbb"), sample.Points("abcaabbb"))
 	for n := range 8 {
 		for first := range letters {
 			kids := slices.Concat(letters[first:], letters[:first])[:n+1]
@@ -283,13 +225,13 @@ func TestManyKids(t *testing.T) {
 	for _, pattern := range []string{
 		strings.Repeat("a", 60), strings.Repeat("a?", 60), strings.Repeat("a|", 60), "b" + strings.Repeat("|", 100) + "a", strings.Repeat("a?", 30) + strings.Repeat("a", 30), strings.Repeat("(a|b)", 40), strings.Repeat("(a|b|)?", 12),
 	} {
-		compiles(t, parsed(t, pattern), points(strings.Repeat("a", 60)), points(strings.Repeat("ab", 30)), points("b"), points(""))
+		compiles(t, parsed(t, pattern), sample.Points(strings.Repeat("a", 60)), sample.Points(strings.Repeat("ab", 30)), sample.Points("b"), sample.Points(""))
 	}
 }
 
 // TestLongPrograms: beside the greatest length.
 func TestLongPrograms(t *testing.T) {
-	over := [][]int{points(strings.Repeat("a", 63)), points(strings.Repeat("ab", 31)), points("b"), nil}
+	over := [][]int{sample.Points(strings.Repeat("a", 63)), sample.Points(strings.Repeat("ab", 31)), sample.Points("b"), nil}
 	for _, pattern := range []string{
 		"(a{50}){39}a{49}", "(a{49}){40}a{36}b*", "((a?){50}){19}(a?){49}b", "((a|b){50}){9}(a|b){49}a{3}", "(a{50}){20}|(a{50}){19}a{47}", "((a{36}){18}a{17}){2,}", "((a{49}){0,39}){1}a{49}", "((a|){0,50}){9}(a|b){25}", "((a|b)*(b|a)?){0,50}", "(((a{2}){3}){4}b?){0,50}",
 	} {

@@ -21,44 +21,21 @@ func patterns() []string {
 	}
 }
 
-// copied is a program with lists of its own.
-func copied(p []api.Inst) []api.Inst {
-	p = slices.Clone(p)
-	for i := range p {
-		p[i].Set = slices.Clone(p[i].Set)
-	}
-	return p
-}
-
-func equal(p, q []api.Inst) bool {
-	return slices.EqualFunc(p, q, func(a, b api.Inst) bool {
-		return a.Op == b.Op && a.X == b.X && a.Y == b.Y && slices.Equal(a.Set, b.Set)
-	})
-}
-
-// spoil overwrites all lists of a program, with their spare room.
-func spoil(p []api.Inst) {
-	for _, in := range p {
-		sample.SpoilBy(in.Set, api.Range{Lo: 7, Hi: 8})
-	}
-	sample.SpoilBy(p, api.Inst{Op: 9, X: -9})
-}
-
 func TestAnswersAreNewMemory(t *testing.T) {
 	for _, pattern := range patterns() {
 		n := parsed(t, pattern)
 		shown := parse.Show(n)
 		first, _ := prog.Compile(n)
 		second, _ := prog.Compile(n)
-		want := copied(second)
-		spoil(first)
-		if !equal(second, want) {
+		want := sample.CopyProgram(second)
+		sample.SpoilProgram(first)
+		if !sample.SameProgram(second, want) {
 			t.Errorf("%q: answers share memory: now %v; want %v", pattern, second, want)
 		}
 		if s := parse.Show(n); s != shown {
 			t.Errorf("%q: the tree is in the answer: now %s", pattern, s)
 		}
-		if third, err := prog.Compile(n); err != api.OK || !equal(third, want) {
+		if third, err := prog.Compile(n); err != api.OK || !sample.SameProgram(third, want) {
 			t.Errorf("%q: an answer is kept: now %v; want %v", pattern, third, want)
 		}
 	}
@@ -67,11 +44,11 @@ func TestAnswersAreNewMemory(t *testing.T) {
 func TestListsOfOneAnswer(t *testing.T) {
 	for _, pattern := range patterns() {
 		p, _ := prog.Compile(parsed(t, pattern))
-		want := copied(p)
+		want := sample.CopyProgram(p)
 		for i, in := range p {
 			sample.SpoilBy(in.Set, api.Range{Lo: 7, Hi: 8})
 			want[i].Set = slices.Repeat([]api.Range{{Lo: 7, Hi: 8}}, len(in.Set))
-			if !equal(p, want) {
+			if !sample.SameProgram(p, want) {
 				t.Fatalf("%q: that of %d is another's too: now %v; want %v", pattern, i, p, want)
 			}
 		}
@@ -84,14 +61,14 @@ func TestOneSetInManyPlaces(t *testing.T) {
 	kids := []api.Node{a, a, {Op: api.OpChar, Set: a.Set[:1]}}
 	n := cat(alt(kids...), cat(kids...), rep(2, 3, alt(kids[:2]...)))
 	p, _ := prog.Compile(n)
-	want := copied(p)
+	want := sample.CopyProgram(p)
 	for i, in := range p {
 		if in.Op == api.InChar {
 			in.Set[0].Lo = -i
 			want[i].Set[0].Lo = -i
 		}
 	}
-	if !equal(p, want) || a.Set[0].Lo != 'a' {
+	if !sample.SameProgram(p, want) || a.Set[0].Lo != 'a' {
 		t.Errorf("%v, %v; want %v", p, a, want)
 	}
 }
@@ -105,7 +82,7 @@ func TestWhatIsHandedInStays(t *testing.T) {
 		want, wantErr := prog.Compile(tree)
 		n, stays := sample.RoomyTree(tree)
 		// The room behind lists isn't seen either.
-		if p, err := prog.Compile(n); !equal(p, want) || err != wantErr || prog.Length(n) != prog.Length(tree) {
+		if p, err := prog.Compile(n); !sample.SameProgram(p, want) || err != wantErr || prog.Length(n) != prog.Length(tree) {
 			t.Errorf("with room %v, %d; want %v", p, prog.Length(n), want)
 		}
 		if !stays() {
@@ -117,16 +94,12 @@ func TestWhatIsHandedInStays(t *testing.T) {
 func TestProgramsHandedInStay(t *testing.T) {
 	for _, pattern := range patterns() {
 		p, _ := prog.Compile(parsed(t, pattern))
-		whole, part := sample.WithRoomOf(p, api.Inst{Op: 9, X: -9})
-		for i := range part {
-			_, part[i].Set = sample.WithRoomOf(p[i].Set, api.Range{Lo: 3, Hi: 4})
-		}
-		want := copied(whole)
-		if !prog.Right(part) || !equal(whole, want) {
-			t.Errorf("%q: now %v; want %v", pattern, whole, want)
+		part, stays := sample.RoomyProgram(p)
+		if !prog.Right(part) || !stays() {
+			t.Errorf("%q: now %v; want %v", pattern, part, p)
 		}
 		part[0] = api.Inst{Op: 5}
-		if prog.Right(part) || prog.Right(whole) {
+		if prog.Right(part) {
 			t.Errorf("%q: right, though it isn't any more", pattern)
 		}
 	}
@@ -135,9 +108,9 @@ func TestProgramsHandedInStay(t *testing.T) {
 func TestNothingIsKept(t *testing.T) {
 	n := cat(one('x'), rep(2, 2, one('y')))
 	p, _ := prog.Compile(n)
-	want := copied(p)
+	want := sample.CopyProgram(p)
 	sample.SpoilTree(n)
-	if !equal(p, want) {
+	if !sample.SameProgram(p, want) {
 		t.Errorf("with another tree it became %v; want %v", p, want)
 	}
 	m := cat(one('x'), rep(2, 2, one('y')))
@@ -145,14 +118,14 @@ func TestNothingIsKept(t *testing.T) {
 	if l := prog.Length(m); l != 5 {
 		t.Errorf("length %d; want 5", l)
 	}
-	compiles(t, m, points("xyyy"))
+	compiles(t, m, sample.Points("xyyy"))
 	// An answer depends on nothing that was asked ahead.
 	for _, ahead := range []api.Node{{Op: 9}, sized(2000), sized(longest + 1), alt(), rep(1, 2)} {
 		prog.Compile(ahead)
 		prog.Length(ahead)
 		prog.Right([]api.Inst{{Op: 9}})
 		measures(t, parsed(t, "a{3}b*"), 6)
-		compiles(t, parsed(t, "a{3}b*"), points("aaabb"))
+		compiles(t, parsed(t, "a{3}b*"), sample.Points("aaabb"))
 		isRight(t, true, api.Inst{})
 	}
 }
