@@ -131,18 +131,6 @@ func TestEnds(t *testing.T) {
 	}
 }
 
-// grown are all trees about these, two by two or with a count.
-func grown(kids []api.Node) []api.Node {
-	all := slices.Clone(kids)
-	for _, kid := range kids {
-		all = append(all, rep(0, 0, kid), rep(0, 1, kid), rep(2, 2, kid), rep(1, 3, kid), rep(0, -1, kid), rep(2, -1, kid))
-		for _, other := range kids {
-			all = append(all, cat(kid, other), alt(kid, other))
-		}
-	}
-	return all
-}
-
 // TestTreesInOneAnother: each Op within each within each, those that Parse never
 // answers in one another too.
 func TestTreesInOneAnother(t *testing.T) {

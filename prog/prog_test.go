@@ -23,7 +23,11 @@ var (
 	empty, begin, end = sample.Empty, sample.Begin, sample.End
 	char, one         = sample.Char, sample.One
 	cat, alt, rep     = sample.Cat, sample.Alt, sample.Rep
+	grown             = sample.Grown
 )
+
+// The patterns of counts of counts.
+var tower, times = sample.Tower, sample.Times
 
 // a, b, c are the trees of these letters; never is one that matches nothing.
 var a, b, c, never = one('a'), one('b'), one('c'), char()
@@ -80,19 +84,6 @@ func sized(length int) api.Node {
 		return rest
 	}
 	return cat(rep(32, 32, sized(length/32)), rest)
-}
-
-// tower is a pattern with so many counts about it, each behind parentheses.
-func tower(pattern string, counts ...string) string {
-	for _, count := range counts {
-		pattern = "(" + pattern + ")" + count
-	}
-	return pattern
-}
-
-// times is a count so many times.
-func times(n int, count string) []string {
-	return slices.Repeat([]string{count}, n)
 }
 
 // measures asks how long a tree is, and that it has a program just if that isn't

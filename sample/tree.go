@@ -27,6 +27,49 @@ func Rep(least, most int, kids ...api.Node) api.Node {
 	return api.Node{Op: api.OpRep, Min: least, Max: most, Kids: kids}
 }
 
+// Grown are all trees about these, two by two or with a count.
+func Grown(kids []api.Node) []api.Node {
+	all := slices.Clone(kids)
+	for _, kid := range kids {
+		all = append(all, Rep(0, 0, kid), Rep(0, 1, kid), Rep(2, 2, kid), Rep(1, 3, kid), Rep(0, -1, kid), Rep(2, -1, kid))
+		for _, other := range kids {
+			all = append(all, Cat(kid, other), Alt(kid, other))
+		}
+	}
+	return all
+}
+
+// EachOdd hands over trees of each Op, and of numbers that are none, with these
+// numbers as counts and these kids, alone and below others.
+func EachOdd(numbers []int, kids [][]api.Node, do func(n api.Node)) {
+	a := One('a')
+	for _, k := range kids {
+		for op := -2; op <= 9; op++ {
+			for _, least := range numbers {
+				for _, most := range numbers {
+					n := api.Node{Op: op, Set: Ranges(9, 1, 2, 2), Min: least, Max: most, Kids: k}
+					for _, n := range []api.Node{n, Cat(n, a), Alt(n, n), Rep(2, 3, n), Rep(0, -1, n)} {
+						do(n)
+					}
+				}
+			}
+		}
+	}
+}
+
+// Tower is a pattern with so many counts about it, each behind parentheses.
+func Tower(pattern string, counts ...string) string {
+	for _, count := range counts {
+		pattern = "(" + pattern + ")" + count
+	}
+	return pattern
+}
+
+// Times is a count so many times.
+func Times(n int, count string) []string {
+	return slices.Repeat([]string{count}, n)
+}
+
 // SameButLists: are two nodes the same, but for what their lists hold?
 func SameButLists(a, b api.Node) bool {
 	return a.Op == b.Op && a.Min == b.Min && a.Max == b.Max && len(a.Set) == len(b.Set) && len(a.Kids) == len(b.Kids)
