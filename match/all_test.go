@@ -11,15 +11,6 @@ import (
 	"reedbed/sample"
 )
 
-// hits are those of these ends, two by two.
-func hits(ends ...int) []api.Hit {
-	var all []api.Hit
-	for i := 0; i < len(ends); i += 2 {
-		all = append(all, api.Hit{From: ends[i], To: ends[i+1]})
-	}
-	return all
-}
-
 // P11.2
 
 func TestAll(t *testing.T) {

@@ -2,7 +2,6 @@ package match_test
 
 import (
 	"math"
-	"math/bits"
 	"slices"
 	"strings"
 	"testing"
@@ -13,6 +12,9 @@ import (
 	"reedbed/prog"
 	"reedbed/sample"
 )
+
+// The texts, and what is found in them.
+var texts, strange, hits = sample.Texts, sample.Strange, sample.Hits
 
 // compiled is a pattern's program.
 func compiled(t *testing.T, pattern string) []api.Inst {
@@ -38,84 +40,21 @@ func begin(x int) api.Inst    { return api.Inst{Op: api.InBegin, X: x} }
 func end(x int) api.Inst      { return api.Inst{Op: api.InEnd, X: x} }
 func over() api.Inst          { return api.Inst{Op: api.InMatch} }
 
-// plainPlaces are a text's, as the language reads it: what is no code point's is
-// one octet alone there too.
-func plainPlaces(text string) []int {
-	var all []int
-	for at := range text {
-		all = append(all, at)
-	}
-	return append(all, len(text))
-}
-
-// plain is what there is in a text of few code points: of each place, the greatest
-// of the ends that the program has from there, met by all ways; below 0: none.
-type plain struct {
-	places, ends []int
-}
-
-func plainly(p []api.Inst, text string) plain {
-	places, points := plainPlaces(text), sample.Points(text)
-	found := plain{places: places}
-	for k := range places {
-		end := -1
-		if all := sample.ProgramEnds(p, points, k); all != 0 {
-			end = places[bits.Len64(uint64(all))-1]
-		}
-		found.ends = append(found.ends, end)
-	}
-	return found
-}
-
-func (x plain) longest(at int) (int, bool) {
-	if k := slices.Index(x.places, at); k >= 0 && x.ends[k] >= 0 {
-		return x.ends[k], true
-	}
-	return 0, false
-}
-
-func (x plain) first(from int) (api.Hit, bool) {
-	for k, at := range x.places {
-		if at >= from && x.ends[k] >= 0 {
-			return api.Hit{From: at, To: x.ends[k]}, true
-		}
-	}
-	return api.Hit{}, false
-}
-
-// all are as P11.2 says it.
-func (x plain) all() []api.Hit {
-	var hits []api.Hit
-	from, behind := 0, -1
-	for {
-		hit, ok := x.first(from)
-		if !ok {
-			return hits
-		}
-		if hit.From == hit.To && hit.From == behind {
-			from++
-			continue
-		}
-		hits = append(hits, hit)
-		from, behind = hit.To, hit.To
-	}
-}
-
 // finds asks for all calls' answers over these texts, at all numbers.
 func finds(t *testing.T, p []api.Inst, texts ...string) {
 	t.Helper()
 	for _, text := range texts {
-		want := plainly(p, text)
+		want := sample.Read(p, text)
 		for at := -2; at <= len(text)+2; at++ {
-			if end, ok := match.Longest(p, text, at); !same(end, ok)(want.longest(at)) {
+			if end, ok := match.Longest(p, text, at); !same(end, ok)(want.Longest(at)) {
 				t.Fatalf("Longest from %d in %q: %d, %t; want %v: %v", at, text, end, ok, want, p)
 			}
-			if hit, ok := match.First(p, text, at); !same(hit, ok)(want.first(at)) {
+			if hit, ok := match.First(p, text, at); !same(hit, ok)(want.First(at)) {
 				t.Fatalf("First from %d in %q: %v, %t; want %v: %v", at, text, hit, ok, want, p)
 			}
 		}
-		if hits := match.All(p, text); !slices.Equal(hits, want.all()) {
-			t.Fatalf("All in %q: %v; want %v: %v", text, hits, want.all(), p)
+		if hits := match.All(p, text); !slices.Equal(hits, want.All()) {
+			t.Fatalf("All in %q: %v; want %v: %v", text, hits, want.All(), p)
 		}
 	}
 }
@@ -123,22 +62,6 @@ func finds(t *testing.T, p []api.Inst, texts ...string) {
 // same holds an answer and its ok against others.
 func same[E comparable](got E, ok bool) func(E, bool) bool {
 	return func(want E, wantOk bool) bool { return got == want && ok == wantOk }
-}
-
-// texts are all of those octets, up to so many.
-func texts(octets string, most int) []string {
-	var all []string
-	sample.Each([]byte(octets), most, func(s []byte) { all = append(all, string(s)) })
-	return all
-}
-
-// strange are texts with octets that are no code points', alone, within, and at
-// the end, and with code points of all sizes.
-func strange() []string {
-	return []string{
-		"\xff", "\x80", "\xc3", "a\xff", "\xffa", "a\xffb", "\xff\xff", "\xe2\x82", "a\xe2\x82", "\xe2\x82a", "\xe2\x82\xac", "\xe2\x82\xac\xac", "\xf0\x9f\x98", "\xf0\x9f\x98\x80", "\xf0\x9f\x98\x80\x80", "a\xf0\x9f\x98\x80b\xf0\x9f",
-		"\xc0\x80", "\xe0\x80\x80", "\xed\xa0\x80", "\xf4\x90\x80\x80", "\xf4\x8f\xbf\xbf", "\xc3\xc3\xa9\xa9", "\u00e9\ufffd\u20ac\U0001f600", "a\u00e9\u20ac\U0001f600\xff", "\x00\x7f\u0080\u07ff\u0800\uffff\U00010000",
-	}
 }
 
 // P11.1
@@ -165,7 +88,7 @@ func TestAllPlaces(t *testing.T) {
 	empty := compiled(t, "")
 	for _, octets := range []string{"a\xc3\xa9\xff", "\xe2\x82\xac", "\xf0\x9f\x98\x80", "\xed\x9f\xa0\xe0", "\xc3\xe2\xf0\x90", "\xf4\x8f\x90\xbf"} {
 		for _, text := range texts(octets, 6) {
-			want := plainPlaces(text)
+			want := sample.TextPlaces(text)
 			if got := match.Places(text); !slices.Equal(got, want) {
 				t.Fatalf("Places(%q) = %v; want %v", text, got, want)
 			}
@@ -226,7 +149,7 @@ func TestNoPlaces(t *testing.T) {
 	for _, pattern := range []string{"", "a", "a*", "^", "$", "(^|a|$)*"} {
 		p := compiled(t, pattern)
 		for _, text := range []string{"", "a", "aaaa", "\u20aca", "\xff"} {
-			first, any := plainly(p, text).first(0)
+			first, any := sample.Read(p, text).First(0)
 			for _, at := range []int{math.MinInt, math.MinInt + 1, math.MinInt32, -1 << 32, -4, -3, -2, -1} {
 				if end, ok := match.Longest(p, text, at); end != 0 || ok {
 					t.Errorf("%q in %q: Longest from %d: %d, %t", pattern, text, at, end, ok)

@@ -20,7 +20,7 @@ func patterns() []string {
 
 func TestAnswersAreNewMemory(t *testing.T) {
 	text := "aab\u00e9\xffca 12abc"
-	wantPlaces := plainPlaces(text)
+	wantPlaces := sample.TextPlaces(text)
 	places, others := match.Places(text), match.Places(text)
 	sample.Spoil(places)
 	if third := match.Places(text); !slices.Equal(others, wantPlaces) || !slices.Equal(third, wantPlaces) {
@@ -28,7 +28,7 @@ func TestAnswersAreNewMemory(t *testing.T) {
 	}
 	for _, pattern := range patterns() {
 		p := compiled(t, pattern)
-		want := plainly(p, text).all()
+		want := sample.Read(p, text).All()
 		first, second := match.All(p, text), match.All(p, text)
 		sample.SpoilBy(first, api.Hit{From: -7, To: -8})
 		if third := match.All(p, text); !slices.Equal(second, want) || !slices.Equal(third, want) {
@@ -42,18 +42,18 @@ func TestAnswersAreNewMemory(t *testing.T) {
 func TestWhatIsHandedInStays(t *testing.T) {
 	for _, pattern := range patterns() {
 		for _, text := range append(strange(), "", "aab", "cab12") {
-			want := plainly(compiled(t, pattern), text)
+			want := sample.Read(compiled(t, pattern), text)
 			p, stays := sample.RoomyProgram(compiled(t, pattern))
 			for at := -1; at <= len(text)+1; at++ {
-				if end, ok := match.Longest(p, text, at); !same(end, ok)(want.longest(at)) {
+				if end, ok := match.Longest(p, text, at); !same(end, ok)(want.Longest(at)) {
 					t.Errorf("%q in %q from %d: %d, %t", pattern, text, at, end, ok)
 				}
-				if hit, ok := match.First(p, text, at); !same(hit, ok)(want.first(at)) {
+				if hit, ok := match.First(p, text, at); !same(hit, ok)(want.First(at)) {
 					t.Errorf("%q in %q from %d: %v, %t", pattern, text, at, hit, ok)
 				}
 			}
-			if all := match.All(p, text); !slices.Equal(all, want.all()) {
-				t.Errorf("%q in %q: %v; want %v", pattern, text, all, want.all())
+			if all := match.All(p, text); !slices.Equal(all, want.All()) {
+				t.Errorf("%q in %q: %v; want %v", pattern, text, all, want.All())
 			}
 			if !stays() {
 				t.Fatalf("%q in %q: it was changed: %v", pattern, text, p)
