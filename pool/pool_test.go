@@ -46,11 +46,7 @@ type plain struct {
 }
 
 func reading(n, size int) *plain {
-	m := &plain{n: n, size: size, holds: map[int]int{}, octets: map[int]string{}}
-	for i := range n {
-		m.line = append(m.line, i)
-	}
-	return m
+	return &plain{n: n, size: size, line: sample.Span(n), holds: map[int]int{}, octets: map[int]string{}}
 }
 
 func (m *plain) act(d deed) (int, api.Errno) {
@@ -547,7 +543,7 @@ func TestAllShortWays(t *testing.T) {
 		{3, 5, []deed{{'t', 0, ""}, {'f', 0, "ab"}, {'f', 2, "c"}, {'h', 1, ""}, {'h', 2, ""}, {'d', 0, ""}, {'d', 1, ""}, {'d', 2, ""}}},
 	} {
 		for first := range c.n + 1 {
-			sample.Each(span(len(c.deeds)), c.most, func(picks []int) {
+			sample.Each(sample.Span(len(c.deeds)), c.most, func(picks []int) {
 				deeds := slices.Repeat([]deed{{kind: 't'}}, first)
 				for _, k := range picks {
 					deeds = append(deeds, c.deeds[k])
@@ -563,24 +559,11 @@ func TestAllShortWays(t *testing.T) {
 	}
 }
 
-// span are the numbers from 0 to ahead of n.
-func span(n int) []int {
-	var list []int
-	for i := range n {
-		list = append(list, i)
-	}
-	return list
-}
-
 func TestLongWays(t *testing.T) {
 	for _, c := range [][2]int{{1, 1}, {2, 4096}, {7, 3}, {63, 100}, {64, 4096}} {
 		n, size := c[0], c[1]
 		p, m := made(t, n, size), reading(n, size)
-		x := uint64(n*size) + 12345
-		next := func(below int) int {
-			x = x*6364136223846793005 + 1442695040888963407
-			return int(x>>33) % below
-		}
+		next := sample.Row(n*size + 12345)
 		for range 4000 {
 			d := deed{kind: "tttffhhddd"[next(10)], i: next(n+2) - 1}
 			if d.kind == 'f' {

@@ -40,6 +40,25 @@ func Sizes() []int {
 	}
 }
 
+// Span are the numbers from 0 to ahead of n.
+func Span(n int) []int {
+	var list []int
+	for i := range n {
+		list = append(list, i)
+	}
+	return list
+}
+
+// Row is a row of numbers without a plain rule, each from 0 to ahead of what is
+// asked; from the same start it is the same row.
+func Row(start int) func(below int) int {
+	x := uint64(start)
+	return func(below int) int {
+		x = x*6364136223846793005 + 1442695040888963407
+		return int(x>>33) % below
+	}
+}
+
 // Ranges are those of these ends, two by two.
 func Ranges(ends ...int) []api.Range {
 	var s []api.Range
