@@ -23,6 +23,21 @@ func StrayKinds() []int {
 	return []int{math.MinInt, -3, -2, -1, 4, 5, 6, 7, 258, 259, 1<<32 + 2, 1<<32 + 3, math.MaxInt}
 }
 
+// Errors are all of the project's, but for OK.
+func Errors() []api.Errno {
+	return []api.Errno{
+		api.ErrNil, api.ErrArg, api.ErrLong, api.ErrSource, api.ErrSink, api.ErrPanic, api.ErrCancel,
+		api.ErrPattern, api.ErrBig, api.ErrClosed, api.ErrBusy, api.ErrNone, api.ErrMany,
+	}
+}
+
+// Causes are some of any number, none of which is OK.
+func Causes() []api.Errno {
+	return append(Errors(),
+		-1, -2, 3, 99, 128, 255, 256, 1<<16, 1<<31, 1<<32, 1<<32+12, -1<<32, math.MinInt, math.MaxInt,
+	)
+}
+
 // Octets are n octets, those beside each other unlike.
 func Octets(n int) []byte {
 	b := make([]byte, n)

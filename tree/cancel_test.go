@@ -1,7 +1,6 @@
 package tree_test
 
 import (
-	"math"
 	"slices"
 	"testing"
 
@@ -35,14 +34,6 @@ func causes(t *testing.T, x *tree.Tree, want ...api.Errno) {
 	}
 	if !slices.Equal(all, want) {
 		t.Fatalf("Causes %d; want %d", all, want)
-	}
-}
-
-// anyCauses are some of any number, none of which is OK.
-func anyCauses() []api.Errno {
-	return []api.Errno{
-		api.ErrNil, api.ErrArg, api.ErrLong, api.ErrSource, api.ErrSink, api.ErrPanic, api.ErrCancel, api.ErrPattern, api.ErrBig, api.ErrClosed, api.ErrBusy, api.ErrNone, api.ErrMany,
-		-1, -2, 3, 99, 128, 255, 256, 1 << 16, 1 << 31, 1 << 32, 1<<32 + 12, -1 << 32, math.MinInt, math.MaxInt,
 	}
 }
 
@@ -146,7 +137,7 @@ func TestCancelWithOK(t *testing.T) {
 }
 
 func TestCausesOfAnyNumber(t *testing.T) {
-	all := anyCauses()
+	all := sample.Causes()
 	for i, cause := range all {
 		x, _ := grown(t, 0, 1, 1)
 		cancel(t, x, 2, cause, 1)
@@ -243,7 +234,7 @@ func TestAllShortWays(t *testing.T) {
 }
 
 func TestLongWays(t *testing.T) {
-	all := anyCauses()
+	all := sample.Causes()
 	for _, kinds := range []string{"a", "aaaaaaac", "aaaaaaaaaaaaaaaaaaaaaaaaaaaaaac", "aac", "ac", "accccc"} {
 		for start := range 3 {
 			next := sample.Row(100*start + len(kinds))
