@@ -39,7 +39,7 @@ func haveHits(t *testing.T, all []api.Item, first, many int) {
 		t.Fatalf("%d items; want %d", len(all), many)
 	}
 	for i, x := range all {
-		if !sameItem(x, api.Item{N: first + i, Hits: hits(first + i)}) {
+		if !sample.SameItem(x, api.Item{N: first + i, Hits: hits(first + i)}) {
 			t.Fatalf("item %d is %v", first+i, x)
 		}
 	}
@@ -56,16 +56,16 @@ func TestItemsAreNewMemory(t *testing.T) {
 			for _, x := range first {
 				sample.SpoilBy(x.Hits, spoilt)
 			}
-			sample.SpoilBy(first, item(77))
+			sample.SpoilBy(first, sample.Item(77))
 			haveHits(t, second, n, many-n)
 			haveHits(t, p.Items(), n, many-n)
-			if x, err := p.Take(); err != api.OK || !sameItem(x, api.Item{N: n, Hits: hits(n)}) {
+			if x, err := p.Take(); err != api.OK || !sample.SameItem(x, api.Item{N: n, Hits: hits(n)}) {
 				t.Fatalf("room %d: Take = %v, %v; want %d", room, x, err, n)
 			}
 			// What was answered ahead stays as it is.
 			haveHits(t, second, n, many-n)
 		}
-		sample.SpoilBy(p.Items(), item(77))
+		sample.SpoilBy(p.Items(), sample.Item(77))
 		told(t, p, state{sent: many})
 	}
 }
@@ -80,8 +80,8 @@ func TestItemsBesideLaterCalls(t *testing.T) {
 		follow(t, p, m, deed{"ssswtt"[next(6)], next(5)})
 	}
 	for k, all := range answers {
-		if !slices.EqualFunc(all, items(wants[k]...), sameItem) {
-			t.Fatalf("answer %d is now %d; want %d", k, numbers(all), wants[k])
+		if !sample.SameItems(all, sample.Items(wants[k]...)) {
+			t.Fatalf("answer %d is now %d; want %d", k, sample.Numbers(all), wants[k])
 		}
 	}
 }
@@ -105,7 +105,7 @@ func TestTheSameHitsInManyItems(t *testing.T) {
 		}
 	}
 	for who := range 4 {
-		if x, err := p.Take(); err != api.OK || !sameItem(x, api.Item{N: who, Hits: hits(1)}) {
+		if x, err := p.Take(); err != api.OK || !sample.SameItem(x, api.Item{N: who, Hits: hits(1)}) {
 			t.Errorf("Take = %v, %v; want %d", x, err, who)
 		}
 	}
@@ -153,7 +153,7 @@ func TestItemsWithoutHits(t *testing.T) {
 				t.Fatalf("room %d: Items %v", room, all)
 			}
 			sample.SpoilBy(all[0].Hits, api.Hit{})
-			if x, err := p.Take(); err != api.OK || !sameItem(x, api.Item{N: 1}) {
+			if x, err := p.Take(); err != api.OK || !sample.SameItem(x, api.Item{N: 1}) {
 				t.Fatalf("room %d: Take = %v, %v", room, x, err)
 			}
 		}
@@ -183,9 +183,7 @@ func TestWhatWasTakenStays(t *testing.T) {
 }
 
 func TestAnyItem(t *testing.T) {
-	all := []api.Item{
-		{}, {N: -1, Buf: -1, Err: api.ErrSource}, {N: 7}, {N: 7}, {Err: -5}, {Rec: api.Record{N: -3, At: -2, Text: "\xff\x00\n"}}, {N: 1 << 62, Buf: -1 << 62, Hits: sample.Hits(-1, -2)}, {Rec: api.Record{Text: string(sample.Octets(5000))}},
-	}
+	all := sample.AnyItems()
 	for _, room := range []int{0, 1, 4, 8} {
 		p := made(t, room)
 		for i, x := range all {
@@ -193,11 +191,11 @@ func TestAnyItem(t *testing.T) {
 				t.Fatalf("room %d: Send of item %d = %t, %v", room, i, done, err)
 			}
 		}
-		if got := p.Items(); !slices.EqualFunc(got, all, sameItem) {
-			t.Errorf("room %d: Items of the numbers %d", room, numbers(got))
+		if got := p.Items(); !sample.SameItems(got, all) {
+			t.Errorf("room %d: Items of the numbers %d", room, sample.Numbers(got))
 		}
 		for i, want := range all {
-			if x, err := p.Take(); err != api.OK || !sameItem(x, want) {
+			if x, err := p.Take(); err != api.OK || !sample.SameItem(x, want) {
 				t.Errorf("room %d: Take = one of number %d, %v; want item %d", room, x.N, err, i)
 			}
 		}

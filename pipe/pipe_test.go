@@ -3,43 +3,12 @@ package pipe_test
 import (
 	"math"
 	"slices"
-	"strconv"
 	"testing"
 
 	"reedbed/api"
 	"reedbed/pipe"
 	"reedbed/sample"
 )
-
-// item is one whose fields all tell its number.
-func item(n int) api.Item {
-	x := api.Item{N: n, Buf: 3*n - 1, Rec: api.Record{N: n + 7, At: 2 * n, Text: "text " + strconv.Itoa(n)}, Err: api.Errno(n % 5)}
-	for i := range n % 4 {
-		x.Hits = append(x.Hits, api.Hit{From: n + i, To: 2*n + i})
-	}
-	return x
-}
-
-func items(ns ...int) []api.Item {
-	var all []api.Item
-	for _, n := range ns {
-		all = append(all, item(n))
-	}
-	return all
-}
-
-func sameItem(x, y api.Item) bool {
-	return x.N == y.N && x.Buf == y.Buf && x.Rec == y.Rec && x.Err == y.Err && slices.Equal(x.Hits, y.Hits)
-}
-
-// numbers are those that tell of items.
-func numbers(all []api.Item) []int {
-	var ns []int
-	for _, x := range all {
-		ns = append(ns, x.N)
-	}
-	return ns
-}
 
 // state is what a pipe tells: its items by their numbers, how many were sent,
 // which senders wait, rising.
@@ -59,7 +28,7 @@ func senders() []int {
 func told(t *testing.T, p *pipe.Pipe, want state) {
 	t.Helper()
 	for range 2 {
-		if all := p.Items(); !slices.EqualFunc(all, items(want.items...), sameItem) {
+		if all := p.Items(); !sample.SameItems(all, sample.Items(want.items...)) {
 			t.Fatalf("Items %v; want %d", all, want.items)
 		}
 		if p.Sent() != want.sent || p.Closed() != want.closed || p.Ready() != want.ready {
@@ -107,7 +76,7 @@ func full(t *testing.T, room, many int) (*pipe.Pipe, state) {
 // send sends an item, which a pipe has to take.
 func send(t *testing.T, p *pipe.Pipe, who, n int, want bool) {
 	t.Helper()
-	if done, err := p.Send(who, item(n)); done != want || err != api.OK {
+	if done, err := p.Send(who, sample.Item(n)); done != want || err != api.OK {
 		t.Fatalf("Send(%d, %d) = %t, %v; want %t", who, n, done, err, want)
 	}
 }
@@ -115,7 +84,7 @@ func send(t *testing.T, p *pipe.Pipe, who, n int, want bool) {
 // notSent sends an item, which a pipe has to refuse.
 func notSent(t *testing.T, p *pipe.Pipe, who int, want api.Errno) {
 	t.Helper()
-	if done, err := p.Send(who, item(99)); done || err != want {
+	if done, err := p.Send(who, sample.Item(99)); done || err != want {
 		t.Fatalf("Send(%d, 99) = %t, %v; want false, %v", who, done, err, want)
 	}
 }
@@ -124,7 +93,7 @@ func notSent(t *testing.T, p *pipe.Pipe, who int, want api.Errno) {
 func take(t *testing.T, p *pipe.Pipe, ns ...int) {
 	t.Helper()
 	for _, n := range ns {
-		if x, err := p.Take(); !sameItem(x, item(n)) || err != api.OK {
+		if x, err := p.Take(); !sample.SameItem(x, sample.Item(n)) || err != api.OK {
 			t.Fatalf("Take = %v, %v; want %d", x, err, n)
 		}
 	}
@@ -133,7 +102,7 @@ func take(t *testing.T, p *pipe.Pipe, ns ...int) {
 // notTaken takes none.
 func notTaken(t *testing.T, p *pipe.Pipe, want api.Errno) {
 	t.Helper()
-	if x, err := p.Take(); !sameItem(x, api.Item{}) || err != want {
+	if x, err := p.Take(); !sample.SameItem(x, api.Item{}) || err != want {
 		t.Fatalf("Take = %v, %v; want none, %v", x, err, want)
 	}
 }

@@ -224,14 +224,14 @@ type answer struct {
 }
 
 func (x answer) same(y answer) bool {
-	return sameItem(x.item, y.item) && x.done == y.done && x.err == y.err
+	return sample.SameItem(x.item, y.item) && x.done == y.done && x.err == y.err
 }
 
 // act does a deed to a pipe; what is sent is item n.
 func act(p *pipe.Pipe, d deed, n int) (x answer) {
 	switch d.kind {
 	case 's':
-		x.done, x.err = p.Send(d.who, item(n))
+		x.done, x.err = p.Send(d.who, sample.Item(n))
 	case 'w':
 		x.done = p.Withdraw(d.who)
 	case 't':
@@ -332,7 +332,7 @@ func (m *plain) take() answer {
 		m.line[at].offered = false
 	}
 	m.taken = append(m.taken, first.n)
-	return answer{item: item(first.n)}
+	return answer{item: sample.Item(first.n)}
 }
 
 // state is what such a pipe has to tell.
@@ -367,8 +367,8 @@ func sameState(t *testing.T, p *pipe.Pipe, m *plain) {
 	if p.Sent() != want.sent || p.Closed() != want.closed || p.Ready() != want.ready {
 		t.Fatalf("Sent %d, Closed %t, Ready %t; want %d, %t, %t", p.Sent(), p.Closed(), p.Ready(), want.sent, want.closed, want.ready)
 	}
-	if all := p.Items(); !slices.EqualFunc(all, items(want.items...), sameItem) {
-		t.Fatalf("Items %d; want %d", numbers(all), want.items)
+	if all := p.Items(); !sample.SameItems(all, sample.Items(want.items...)) {
+		t.Fatalf("Items %d; want %d", sample.Numbers(all), want.items)
 	}
 	for who := -2; who < 12; who++ {
 		if p.Waits(who) != slices.Contains(want.waits, who) {
