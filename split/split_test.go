@@ -37,24 +37,8 @@ func records(n, at int, ended ...string) []api.Record {
 
 // plain are a text's records by the document's words.
 func plain(most int, text string) told {
-	var c told
-	at := 0
-	for n, line := range strings.SplitAfter(text, "\n") {
-		record, ended := strings.CutSuffix(line, "\n")
-		if ended {
-			record = strings.TrimSuffix(record, "\r")
-		}
-		if record == "" && !ended {
-			break
-		}
-		if len(record) > most {
-			c.err = api.ErrLong
-			break
-		}
-		c.records = append(c.records, api.Record{N: n, At: at, Text: record})
-		at += len(line)
-	}
-	return c
+	l, err := sample.Records(most, text)
+	return told{l, err}
 }
 
 // state is what a splitter has told of a text, all together, and how many
@@ -64,28 +48,13 @@ type state struct {
 	held int
 }
 
-// behinds are what may come behind a text: with them any text is one whose last
-// record is too long, and one whose last record isn't, if that isn't known.
-func behinds() []string {
-	return []string{"", "\n", "\r", "a", "\r\n", "\ra", "\r\r", "\n\n"}
-}
-
-// known is what is to be told of a text that isn't closed: the records that
-// have ended, and ErrLong, if the next one is too long whatever comes behind.
+// known is what is to be told of a text that isn't closed.
 func known(most int, text string) state {
-	from := strings.LastIndexByte(text, '\n') + 1
-	s := state{plain(most, text[:from]), len(text) - from}
-	long := 0
-	for _, behind := range behinds() {
-		c := plain(most, text+behind)
-		if c.err == api.ErrLong && len(c.records) == len(s.records) {
-			long++
-		}
+	l, err := sample.RecordsBegun(most, text)
+	if err != api.OK {
+		return state{told{l, err}, 0}
 	}
-	if long == len(behinds()) {
-		s.err, s.held = api.ErrLong, 0
-	}
-	return s
+	return state{told{l, err}, len(text) - strings.LastIndexByte(text, '\n') - 1}
 }
 
 // knowing is known, each text looked at once.
@@ -333,7 +302,7 @@ func TestLongIsToldAtOnce(t *testing.T) {
 		for _, c := range []struct{ held, more string }{
 			{just, "b"}, {just + "\r", "b"}, {just + "\r", "\r"}, {just[1:] + "\r\r", "\r"}, {just[1:] + "\r\r", "b"},
 		} {
-			for _, behind := range append(behinds(), "\na\n", strings.Repeat("b", 9000)) {
+			for _, behind := range append(sample.TextBehinds(), "\na\n", strings.Repeat("b", 9000)) {
 				s := made(t, most)
 				s.Write("a\n")
 				if l, err := s.Write(c.held); len(l) != 0 || err != api.OK || s.Held() != len(c.held) {
